@@ -1,0 +1,1 @@
+"""Onebetween: webs with just one walk of so many steps between any two places."""

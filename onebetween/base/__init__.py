@@ -1,0 +1,1 @@
+"""What all parts of the package need: kinds of values, and numbers."""

@@ -1,0 +1,1 @@
+"""Webs, whether they are lone or not."""
