@@ -147,6 +147,13 @@ class Moebius(Case):
         self.assertSame(tuple(moebius(number) for number in range(1, 21)), wanted)
         self.assertSame([moebius(30), moebius(210), moebius(997), moebius(1000), moebius(961), moebius(770)], [-1, 1, -1, 0, 0, 1])
 
+    def test_all(self):
+        primes = [number for number in range(2, 1001) if all(number % part for part in range(2, number))]
+        for number in range(1, 1001):
+            parts = [prime for prime in primes if number % prime == 0]
+            squared = any(number % (prime * prime) == 0 for prime in primes)
+            self.assertSame(moebius(number), 0 if squared else (-1) ** len(parts))
+
     def test_sums(self):
         # The values over all divisors of a number above 1 cancel each other; no other values do so.
         for number in range(1, 1001):

@@ -1,10 +1,15 @@
 """Powers, figures and divisors of integers."""
 
+from math import isqrt
+
 from onebetween.base.words import is_count, is_integer, is_within
 from onebetween.errors import InvalidNumber, InvalidOperation
 
 # Exponents, lengths and the numbers that are divided all end here.
 _LIMIT = 1000
+
+# All primes whose squares are at most _LIMIT.
+_PRIMES = (2, 3, 5, 7, 11, 13, 17, 19, 23, 29, 31)
 
 
 def power(base, exponent):
@@ -68,18 +73,30 @@ def divisors(number):
     """Return the ascending tuple of the divisors of a number."""
     if not is_within(number, 1, _LIMIT):
         raise InvalidNumber(number)
-    return tuple([part for part in range(1, number + 1) if number % part == 0])
+    # Each divisor above the root has one below it as its partner.
+    low = [part for part in range(1, isqrt(number) + 1) if number % part == 0]
+    high = [number // part for part in low[::-1] if part * part != number]
+    return tuple(low + high)
 
 
 def moebius(number):
     """Return 0 if a square divides the number, otherwise 1 or -1 by the number of its primes."""
-    parts = divisors(number)
-    if any([number % (part * part) == 0 for part in parts if part > 1]):
-        return 0
-    primes = [part for part in parts if len(divisors(part)) == 2]
-    if len(primes) % 2 == 0:
-        return 1
-    return -1
+    if not is_within(number, 1, _LIMIT):
+        raise InvalidNumber(number)
+    sign = 1
+    rest = number
+    for prime in _PRIMES:
+        if prime * prime > rest:
+            break
+        if rest % prime == 0:
+            rest = rest // prime
+            if rest % prime == 0:
+                return 0
+            sign = -sign
+    # What is left has no prime divisor but itself.
+    if rest > 1:
+        return -sign
+    return sign
 
 
 def _check_base(base):
