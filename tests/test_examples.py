@@ -1,10 +1,9 @@
 """The examples of the document, as they stand there."""
 
 import doctest
+import importlib
+import re
 import unittest
-
-from onebetween.base import numbers, words
-from onebetween.webs.webs import Web
 
 VALUES = """
 FOUR = Web(((0, 1), (2, 3), (0, 1), (2, 3)))
@@ -12,46 +11,103 @@ NINE = Web(((0, 1, 2), (4, 5, 6), (3, 7, 8), (0, 1, 2), (3, 4, 5), (6, 7, 8), (0
 BENT = Web(((0, 1), (2, 3), (0, 2), (1, 3)))
 """
 
-STAGE_1 = """
+MODULES = (
+    "onebetween.webs.webs",
+    "onebetween.base.words",
+    "onebetween.base.numbers",
+    "onebetween.webs.making",
+    "onebetween.lone.papers",
+    "onebetween.lone.middles",
+    "onebetween.lone.words",
+)
+
+# For each stage its examples, and how many they are.
+STAGES = {
+    1: (2, """
 >>> [is_integer(True), is_count(-1), is_letter("ab"), power(3, 4), exponent_of(2, 8), exponent_of(2, 6), exponent_of(1, 1), figures_of(2, 4, 5)]
 [False, False, False, 81, 3, None, 0, (0, 1, 0, 1)]
 >>> [number_of(3, (1, 0, 2)), number_of(5, ()), divisors(12), [moebius(1), moebius(2), moebius(6), moebius(12)], figures_of(1, 3, 0)]
 [11, 0, (1, 2, 3, 4, 6, 12), [1, -1, 1, 0], (0, 0, 0)]
-"""
-
-STAGE_2 = """
+"""),
+    2: (3, """
 >>> [FOUR.columns, FOUR.loops, FOUR.degree, FOUR.lines[1], (1, 2) in FOUR, FOUR[3], str(FOUR), Web(((1,), ())).degree]
 [((0, 2), (0, 2), (1, 3), (1, 3)), (0, 3), 2, '1 to 2 3', True, (2, 3), 'web of 4 places, 8 ties', None]
 >>> [FOUR.turned().rows, FOUR.renamed((1, 0, 2, 3)).rows, FOUR.part((0, 1)).lines]
 [((0, 2), (0, 2), (1, 3), (1, 3)), ((2, 3), (0, 1), (0, 1), (2, 3)), ('0 to 0 1', '1 to nothing')]
 >>> [FOUR.without_tie(0, 1).with_tie(0, 3).rows[0], FOUR.with_row(1, ()) == FOUR, Web.from_lines(("1 to nothing", "0 to 1")).rows]
 [(0, 3), False, ((1,), ())]
-"""
+"""),
+    3: (4, """
+>>> [word_web(2, 2) == FOUR, word_web(3, 2) == NINE, word_of(2, 3, 6), place_of(3, 2, (1, 2)), all_ties(2).rows]
+[True, False, (1, 1, 0), 5, ((0, 1), (0, 1))]
+>>> [line_web(all_ties(2)) == FOUR, line_web(FOUR) == word_web(2, 3), line_web(all_ties(2), times=2) == word_web(2, 3), line_ties(BENT)[:4]]
+[True, True, True, ((0, 0), (0, 1), (1, 2), (1, 3))]
+>>> [product(FOUR, all_ties(1)) == FOUR, product(all_ties(2), BENT)[5], pair_of(all_ties(2), BENT, 5), place_in(all_ties(2), BENT, (1, 1))]
+[True, (2, 3, 6, 7), (1, 1), 5]
+>>> [both(all_ties(1), all_ties(2)).rows, strides(FOUR, 2) == all_ties(4), strides(BENT, 2)[2], shifted(BENT, (1, 0, 2, 3)).rows[0], is_order(FOUR, (3, 1, 0, 2))]
+[((0,), (1, 2), (1, 2)), True, (0, 1, 2), (2, 3), True]
+"""),
+    5: (4, """
+>>> [is_lone(FOUR, 2), is_lone(FOUR, 4), depth_of(NINE), depth_of(BENT), depth_of(Web(((0,),))), flaws(BENT, 2), flaws(NINE, 2), flaws(NINE, 3)]
+[True, False, 2, None, 1, (2, 2), (0, 0), (0, 81)]
+>>> [two_walks(FOUR, 2), two_walks(FOUR, 1), two_walks(FOUR, 3) is None, missing_pair(BENT, 2)[0] in (2, 3), missing_pair(NINE, 5)]
+[None, None, False, True, None]
+>>> [is_lone_paper(BENT, 2, ("two", (2, 0, 0), (2, 2, 0))), is_lone_paper(BENT, 2, ("none", 2, 3, ((2,), (0, 2), (0, 1, 2)))), lone_paper(NINE, 2)[1][8][0]]
+[True, True, (8, 6, 0)]
+>>> [is_lone_paper(FOUR, 2, ("none", 0, 3, ((0,), (0, 1), (0, 1)))), lone_paper(Web(((0,),)), 3), lone_paper(Web(((), (0, 1))), 1)[0]]
+[False, ('lone', (((0, 0, 0, 0),),)), 'none']
+"""),
+    6: (4, """
+>>> [the_walk(FOUR, 2, 1, 2), between(NINE, 3, 5), between(NINE, 1, 1), middle_table(FOUR)[1], steps_to(NINE, 2, 1, 6), steps_to(NINE, 2, 1, 3)]
+[(1, 3, 2), 1, 6, (2, 2, 3, 3), 1, 2]
+>>> [address(NINE, 2, 1, 3), address(FOUR, 2, 3, 2), place_at(NINE, 2, 1, (2, 1)), web_of_table(middle_table(NINE)) == NINE, is_middle_table(((0, 0), (1, 1)))]
+[(0, 0), (1, 0), 1, True, False]
+>>> [long_walk_at(FOUR, 2, 0, 0, 3, index) for index in (0, 1)] + [long_walk_index(FOUR, 2, (0, 1, 2, 0))]
+[(0, 0, 0, 0), (0, 1, 2, 0), 1]
+>>> between(BENT, 0, 0)
+raises NotLone
+"""),
+    11: (5, """
+>>> [is_line(NINE, 2), clashing_pair(FOUR, 2), word_names(NINE, 2), is_word_paper(NINE, 2, ("clash", 0, 1, 4)), is_word_paper(NINE, 2, ("clash", 0, 0, 3))]
+[False, None, None, True, False]
+>>> plain_root(FOUR, 2) == (Web(((0, 1), (0, 1))), ((0, 0), (0, 1), (1, 0), (1, 1)))
+True
+>>> [is_word_names(FOUR, 2, ((0, 0), (0, 1), (1, 0), (1, 1))), is_word_names(FOUR, 2, ((1, 1), (1, 0), (0, 1), (0, 0))), is_word_names(FOUR, 2, ((0, 0), (1, 0), (0, 1), (1, 1)))]
+[True, True, False]
+>>> deeper = line_web(NINE)
+>>> [is_line(deeper, 3), len(plain_root(deeper, 3)[0]), word_paper(deeper, 3)[:2], is_root(deeper, 3, plain_root(deeper, 3))]
+[True, 9, ('clash', 1), True]
+"""),
+}
 
 
 def names():
     """Return all names that the examples use."""
-    found = {"Web": Web}
-    for module in (words, numbers):
-        found.update({name: getattr(module, name) for name in dir(module) if not name.startswith("_")})
+    found = {}
+    for module in MODULES:
+        for name, value in vars(importlib.import_module(module)).items():
+            # A name is that of the module that defines it.
+            if not name.startswith("_") and getattr(value, "__module__", None) == module:
+                found[name] = value
     exec(VALUES, found)
     return found
 
 
 class Examples(unittest.TestCase):
+    def test_stages(self):
+        for stage, (many, text) in STAGES.items():
+            with self.subTest(stage=stage):
+                self.check(text, many)
+
     def check(self, text, many):
+        # The document writes "raises NotLone" where Python writes a traceback.
+        text = re.sub(r"^raises (\w+)$", r"Traceback (most recent call last):\n\1", text, flags=re.MULTILINE)
         examples = doctest.DocTestParser().get_doctest(text, names(), "example", None, 0)
         self.assertEqual(len(examples.examples), many)
         told = []
-        runner = doctest.DocTestRunner(verbose=False)
+        runner = doctest.DocTestRunner(verbose=False, optionflags=doctest.IGNORE_EXCEPTION_DETAIL)
         runner.run(examples, out=told.append)
         self.assertEqual(runner.failures, 0, "".join(told))
-
-    def test_stage_1(self):
-        self.check(STAGE_1, 2)
-
-    def test_stage_2(self):
-        self.check(STAGE_2, 3)
 
 
 if __name__ == "__main__":

@@ -1,12 +1,12 @@
 """The form of the package's files: the rules of LANGUAGE.md that a short test can see."""
 
 import ast
+import importlib
 import inspect
 import re
 import unittest
 from pathlib import Path
 
-from onebetween.base import numbers, words
 from onebetween.webs.webs import Web
 
 ROOT = Path(__file__).resolve().parent.parent
@@ -16,25 +16,47 @@ FILES = sorted(PACKAGE.rglob("*.py"))
 # Words that occur nowhere but in comments and docstrings (L17).
 BARRED = re.compile(r"\b(type|typing|enum|Enum|Flag|Generic|Protocol|ABC|namedtuple|register|mro|elements|open|input|law)\b")
 
+# The functions and constants of the interface, by the module that defines them.
 INTERFACE = {
-    words.is_integer: "(value)",
-    words.is_count: "(value)",
-    words.is_letter: "(value)",
-    numbers.power: "(base, exponent)",
-    numbers.exponent_of: "(base, number)",
-    numbers.figures_of: "(base, length, number)",
-    numbers.number_of: "(base, figures)",
-    numbers.divisors: "(number)",
-    numbers.moebius: "(number)",
-    Web: "(rows)",
-    Web.from_lines: "(lines)",
-    Web.turned: "(self)",
-    Web.renamed: "(self, names)",
-    Web.with_tie: "(self, one, other)",
-    Web.without_tie: "(self, one, other)",
-    Web.with_row: "(self, place, row)",
-    Web.part: "(self, places)",
+    "onebetween.base.words": ("is_integer(value)", "is_count(value)", "is_letter(value)"),
+    "onebetween.base.numbers": (
+        "power(base, exponent)", "exponent_of(base, number)", "figures_of(base, length, number)", "number_of(base, figures)",
+        "divisors(number)", "moebius(number)",
+    ),
+    "onebetween.webs.making": (
+        "word_web(degree, depth)", "all_ties(number)", "word_of(degree, depth, place)", "place_of(degree, depth, word)",
+        "line_web(web, *, times=1)", "line_ties(web)", "product(one, other)", "pair_of(one, other, place)",
+        "place_in(one, other, pair)", "both(one, other)", "strides(web, steps)", "shifted(web, names)", "is_order(web, value)",
+    ),
+    "onebetween.lone.papers": (
+        "is_lone(web, depth)", "depth_of(web)", "flaws(web, depth)", "two_walks(web, depth)", "missing_pair(web, depth)",
+        "lone_paper(web, depth)", "is_lone_paper(web, depth, value)",
+    ),
+    "onebetween.lone.middles": (
+        "the_walk(web, depth, one, other)", "between(web, one, other)", "middle_table(web)", "is_middle_table(value)",
+        "web_of_table(table)", "address(web, depth, start, place)", "place_at(web, depth, start, labels)",
+        "long_walk_at(web, depth, one, other, steps, index)", "long_walk_index(web, depth, walk)",
+        "steps_to(web, depth, one, other)",
+    ),
+    "onebetween.lone.words": (
+        "is_line(web, depth)", "clashing_pair(web, depth)", "root_of(web, depth)", "is_root(web, depth, value)",
+        "word_names(web, depth)", "is_word_names(web, depth, value)", "word_paper(web, depth)",
+        "is_word_paper(web, depth, value)", "plain_root(web, depth)",
+    ),
 }
+
+CONSTANTS = {
+    "onebetween.base.words": {"MAX_FIGURES": 200},
+    "onebetween.webs.webs": {"MAX_PLACES": 256},
+    "onebetween.webs.making": {"MAX_PLACES": 256},
+    "onebetween.lone.papers": {"MAX_DEPTH": 8, "MAX_PAPER": 64},
+    "onebetween.lone.middles": {"MAX_STEPS": 100},
+}
+
+WEB = (
+    "from_lines(lines)", "turned(self)", "renamed(self, names)", "with_tie(self, one, other)", "without_tie(self, one, other)",
+    "with_row(self, place, row)", "part(self, places)",
+)
 
 
 def trees():
@@ -54,14 +76,25 @@ def without_docstrings(tree):
 
 
 class Interface(unittest.TestCase):
-    def test_parameters(self):
-        for call, parameters in INTERFACE.items():
-            self.assertEqual(str(inspect.signature(call)), parameters, call)
+    def test_functions(self):
+        for module, texts in INTERFACE.items():
+            for text in texts:
+                call = getattr(importlib.import_module(module), text.split("(")[0])
+                self.assertEqual(call.__name__ + str(inspect.signature(call)), text)
+                self.assertEqual(call.__module__, module)
 
-    def test_modules(self):
-        for call in INTERFACE:
-            module = call.__module__
-            self.assertIn(module, ("onebetween.base.words", "onebetween.base.numbers", "onebetween.webs.webs"))
+    def test_constants(self):
+        for module, constants in CONSTANTS.items():
+            for name, value in constants.items():
+                self.assertEqual(getattr(importlib.import_module(module), name), value)
+
+    def test_web(self):
+        self.assertEqual(str(inspect.signature(Web)), "(rows)")
+        self.assertEqual(Web.__module__, "onebetween.webs.webs")
+        for text in WEB:
+            name = text.split("(")[0]
+            self.assertIn(name, vars(Web))
+            self.assertEqual(name + str(inspect.signature(getattr(Web, name))), text)
 
 
 class Files(unittest.TestCase):

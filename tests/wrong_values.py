@@ -44,3 +44,23 @@ def same(one, other):
 def without(values, *left_out):
     """Return the values but some."""
     return tuple(value for value in values if not any(same(value, other) for other in left_out))
+
+
+ANY_KIND = NO_COUNTS + (0, 1, 2, 3)
+NO_WEBS = without(ANY_KIND, FOUR, NINE)
+
+
+def no_numbers(least, most):
+    """Return values of every kind that are no integers from least to most."""
+    near = (least - 2, least - 1, most + 1, most + 2, LONG - 1)
+    return NO_COUNTS + tuple(number for number in near if number >= 0 and not least <= number <= most)
+
+
+def web_rule(index=0):
+    """Return the rule for a parameter that is a web, for assertRefusals."""
+    return index, NO_WEBS, InvalidWeb, None
+
+
+def number_rule(key, least, most):
+    """Return the rule for a parameter that is an integer from least to most, for assertRefusals."""
+    return key, no_numbers(least, most), InvalidNumber, "value"

@@ -1,5 +1,6 @@
 """Webs: places, and the one-way ties between them."""
 
+from onebetween.base.masks import lone_depth_of
 from onebetween.base.words import is_arrangement, is_ascending, is_number_word, is_within
 from onebetween.errors import InvalidNumber, InvalidOperation, InvalidWeb, ParseError
 
@@ -13,6 +14,7 @@ class Web:
         if not _are_rows(rows):
             raise InvalidWeb("a web is a tuple of 1 to 256 ascending tuples of its places")
         self._rows = rows
+        self._lone_depth = None
 
     @classmethod
     def from_lines(cls, lines):
@@ -55,6 +57,14 @@ class Web:
         if min(sizes) == max(sizes):
             return sizes[0]
         return None
+
+    @property
+    def lone_depth(self):
+        """The least depth of which the web is lone, 0 if there is none."""
+        # Most functions about lone webs ask for it, so it is worked out but once.
+        if self._lone_depth is None:
+            self._lone_depth = lone_depth_of(self._rows)
+        return self._lone_depth
 
     def turned(self):
         """Return the web with each tie the other way round."""
