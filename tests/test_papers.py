@@ -76,6 +76,8 @@ class Lone(Case):
             one, other = web.ties[-1]
             spoilt = web.without_tie(one, other)
             self.assertIs(depth_of(spoilt), None)
+            for missing in [after for after in range(len(web)) if after not in web.rows[3]][:1]:
+                self.assertIs(depth_of(web.with_tie(3, missing)), None)
             self.assertIs(is_lone(spoilt, depth), False)
 
     def test_right_sizes_are_not_enough(self):
@@ -235,7 +237,7 @@ class Papers(Case):
 
     def test_walks_need_the_right_size(self):
         # All walks are there, but with two places of unlike rows, or of too many ties.
-        for web, depth in ((Web(((0, 1), (0,))), 2), (all_ties(2), 2), (all_ties(3), 3)):
+        for web, depth in ((Web(((0, 1), (0,))), 2), (all_ties(2), 2), (all_ties(3), 3), (FOUR.with_tie(3, 1), 2), (FOUR.with_tie(0, 2), 2)):
             places = range(len(web))
             walks = tuple(tuple([walk for walk in all_walks(web, one, depth) if walk[-1] == other][0] for other in places)
                           for one in places)
@@ -260,6 +262,16 @@ class Papers(Case):
                     self.assertIs(is_lone_paper(web, depth, (kind, value, value)), False)
                     self.assertIs(is_lone_paper(web, depth, (kind, 0, 1, value)), False)
                     self.assertIs(is_lone_paper(web, depth, (value, 0, 1, ((0,), ()))), False)
+
+    def test_other_words(self):
+        two = ("two", (2, 0, 0), (2, 2, 0))
+        none = ("none", 2, 3, ((2,), (0, 2), (0, 1, 2)))
+        for paper in (two, none):
+            self.assertIs(is_lone_paper(BENT, 2, paper), True)
+            for word in ("lone", "two", "none", "", "None", None, 0, True, (), BENT):
+                if word != paper[0]:
+                    self.assertIs(is_lone_paper(BENT, 2, (word,) + paper[1:]), False)
+            self.assertIs(is_lone_paper(BENT, 2, paper + paper[-1:]), False)
 
     def test_sizes(self):
         for web, depth in ((word_web(2, 6), 6), (word_web(4, 3), 3), (word_web(8, 2), 2), (all_ties(64), 1), (line_web(NINE), 3)):

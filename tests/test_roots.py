@@ -18,10 +18,13 @@ FROM_ONE = number_rule(1, 1, 8)
 FROM_TWO = number_rule(1, 2, 8)
 DEEPER = line_web(NINE)
 DEEPEST = line_web(DEEPER)
+# Lone of depth 3, but no line web.
+ODD = Web(((0, 1), (2, 3), (4, 7), (5, 6), (0, 1), (2, 3), (4, 5), (6, 7)))
 MIXED = FOUR.renamed((2, 0, 3, 1))
 CHANGED = DEEP.renamed((3, 7, 1, 0, 6, 2, 5, 4))
 LONE = ((FOUR, 2), (NINE, 2), (DEEP, 3), (MIXED, 2), (CHANGED, 3), (DEEPER, 3), (DEEPEST, 4), (LOOP, 2), (LOOP, 8), (word_web(3, 2), 2),
-        (NINE.turned(), 2), (DEEPER.turned(), 3), (product(FOUR, FOUR), 2), (product(FOUR, NINE), 2), (word_web(2, 4).turned(), 4))
+        (NINE.turned(), 2), (DEEPER.turned(), 3), (product(FOUR, FOUR), 2), (product(FOUR, NINE), 2), (word_web(2, 4).turned(), 4),
+        (ODD, 3), (line_web(ODD), 4))
 NOT_LONE = ((BENT, 2), (FOUR, 3), (NINE, 4), (FULL, 2), (all_ties(2), 2), (word_web(2, 8), 7), (Web(((),)), 2))
 
 
@@ -64,7 +67,7 @@ class Lines(Case):
 
     def test_which(self):
         self.assertSame([is_line(web, depth) for web, depth in LONE],
-                        [True, False, True, True, True, True, True, True, True, True, False, True, True, False, True])
+                        [True, False, True, True, True, True, True, True, True, True, False, True, True, False, True, False, True])
 
     def test_wrong(self):
         for call in (is_line, clashing_pair, root_of, plain_root):
@@ -118,6 +121,7 @@ class Roots(Case):
         # Further places without ties are let, places with ties are not.
         self.assertIs(is_root(DEEP, 3, (both(root, Web(((), ()))), ties)), True)
         self.assertIs(is_root(DEEP, 3, (both(root, LOOP), ties)), False)
+        self.assertIs(is_root(DEEP, 3, (both(root, LOOP), ties + ((4, 4),))), False)
         late = tuple((x + 252, y + 252) for x, y in ties)
         self.assertIs(is_root(DEEP, 3, (both(Web(((),) * 252), root), late)), True)
 
@@ -167,7 +171,8 @@ def exchanged(names, order):
 
 WORD_WEBS = ((FOUR, 2), (MIXED, 2), (DEEP, 3), (CHANGED, 3), (word_web(3, 2), 2), (word_web(2, 4).turned(), 4), (product(FOUR, FOUR), 2),
              (all_ties(3), 1), (all_ties(1), 1), (LOOP, 8), (all_ties(2), 1))
-NO_WORD_WEBS = ((NINE, 2, 0), (DEEPER, 3, 1), (DEEPEST, 4, 2), (product(NINE, FOUR), 2, 0), (NINE.turned(), 2, 0), (DEEPER.turned(), 3, 1))
+NO_WORD_WEBS = ((NINE, 2, 0), (DEEPER, 3, 1), (DEEPEST, 4, 2), (product(NINE, FOUR), 2, 0), (NINE.turned(), 2, 0), (DEEPER.turned(), 3, 1),
+                (ODD, 3, 0), (line_web(ODD), 4, 1), (line_web(ODD, times=2), 5, 2))
 
 
 class Names(Case):
@@ -225,6 +230,10 @@ class Names(Case):
                       names[:3] + ((1,),), names[:3] + (names[2],), (names,), names[:3] + ("11",), ("00", "01", "10", "11")):
             self.assertIs(is_word_names(FOUR, 2, value), False)
             self.assertIs(is_word_paper(FOUR, 2, ("words", value)), False)
+        for value in (("Words", names), ("clash", names), (names, names), ("words", names, names), ("words", names, 0, 1), ("words",)):
+            self.assertIs(is_word_paper(FOUR, 2, value), False)
+        for depth, many in itertools.product(range(1, 9), range(10)):
+            self.assertIs(is_word_names(LOOP, depth, ((0,) * many,)), many == depth)
         for web, depth in ((FOUR, 2), (NINE, 2), (all_ties(2), 1)):
             self.assertJudges(is_word_names, (web, depth), ANY_KIND)
 

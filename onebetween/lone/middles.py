@@ -5,7 +5,7 @@ from onebetween.base.words import is_count, is_within
 from onebetween.errors import InvalidNumber, InvalidOperation, InvalidWalk
 from onebetween.lone.papers import MAX_DEPTH
 from onebetween.webs.checks import check_lone, check_number, check_place, check_web, has_depth
-from onebetween.webs.steps import is_place_tuple, is_walk_of, walks_from
+from onebetween.webs.steps import is_walk_of, walks_from
 from onebetween.webs.webs import MAX_PLACES, Web
 
 MAX_STEPS = 100

@@ -57,9 +57,7 @@ def lone_paper(web, depth):
     """Return a paper that shows that a web is lone of a depth, or that it is not."""
     _check_small(web, depth)
     if has_depth(web, depth):
-        # The walks from a place are ascending; the paper wants them by their ends.
-        ends = [{walk[-1]: walk for walk in walks_from(web, one, depth)} for one in range(len(web))]
-        return "lone", tuple([tuple([walks[other] for other in range(len(web))]) for walks in ends])
+        return "lone", tuple([_by_ends(walks_from(web, place, depth)) for place in range(len(web))])
     walks = two_walks(web, depth)
     if walks is not None:
         return "two", walks[0], walks[1]
@@ -146,6 +144,12 @@ def _some_walk(web, levels, one, steps, other):
 def _nexts(web, ways, place, other):
     """Return the places next to a place from which these ways lead to the other one."""
     return [after for after in web[place] if has_place(ways[after][0], other)]
+
+
+def _by_ends(walks):
+    """Return the tuple of walks to all places, in the order of these places."""
+    found = {walk[-1]: walk for walk in walks}
+    return tuple([found[place] for place in range(len(found))])
 
 
 def _shows_lone(web, depth, walks):

@@ -3,18 +3,11 @@
 from onebetween.base.words import is_within
 
 
-def is_place_tuple(web, value):
-    """Tell whether the value is a tuple of places of the web."""
-    if not isinstance(value, tuple):
-        return False
-    return all([is_within(place, 0, len(web) - 1) for place in value])
-
-
 def is_walk_of(web, value, least, most):
     """Tell whether the value is a walk of the web of at least and at most so many steps."""
     if not isinstance(value, tuple) or not least <= len(value) - 1 <= most:
         return False
-    if not is_place_tuple(web, value):
+    if not all([is_within(place, 0, len(web) - 1) for place in value]):
         return False
     rows = web.rows
     return all([after in rows[place] for place, after in zip(value, value[1:])])
