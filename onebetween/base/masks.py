@@ -36,6 +36,16 @@ def step_from(masks, mask):
     return union_of([masks[place] for place in places_of(mask)])
 
 
+def spread_from(masks, start, barred):
+    """Return the mask of what steps from the places of a mask lead to, never into the barred places."""
+    seen = start
+    layer = start
+    while layer != 0:
+        layer = step_from(masks, layer) & ~seen & ~barred
+        seen = seen | layer
+    return seen
+
+
 def reached(rows, steps):
     """Return for each place the mask of the places to which walks of so many steps lead."""
     found = [1 << place for place in range(len(rows))]

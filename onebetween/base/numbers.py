@@ -17,6 +17,11 @@ def power(base, exponent):
     _check_base(base)
     if not is_within(exponent, 0, _LIMIT):
         raise InvalidNumber(exponent)
+    return raised(base, exponent)
+
+
+def raised(base, exponent):
+    """Return the power of an integer, however great both are."""
     result = 1
     # Squaring takes few multiplications; a power can have 200000 digits.
     for bit in reversed(range(exponent.bit_length())):

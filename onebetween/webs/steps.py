@@ -1,5 +1,6 @@
 """Steps along the ties of a web, without any check of the web."""
 
+from onebetween.base.masks import mask_of, places_of, union_of
 from onebetween.base.words import is_within
 
 
@@ -24,12 +25,8 @@ def walks_from(web, one, steps):
 
 def layers_from(web, one, steps):
     """Return the tuple of the places to which walks of 0, 1 and so on steps lead."""
-    rows = web.rows
+    masks = [mask_of(row) for row in web.rows]
     layers = [(one,)]
     for _ in range(steps):
-        found = {}
-        for place in layers[-1]:
-            for after in rows[place]:
-                found[after] = True
-        layers.append(tuple(sorted(found)))
+        layers.append(places_of(union_of([masks[place] for place in layers[-1]])))
     return tuple(layers)
