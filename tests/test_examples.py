@@ -16,8 +16,12 @@ MODULES = (
     "onebetween.base.words",
     "onebetween.base.numbers",
     "onebetween.webs.making",
+    "onebetween.webs.walks",
     "onebetween.lone.papers",
     "onebetween.lone.middles",
+    "onebetween.lone.counts",
+    "onebetween.lone.tours",
+    "onebetween.lone.closures",
     "onebetween.lone.words",
 )
 
@@ -47,6 +51,15 @@ STAGES = {
 >>> [both(all_ties(1), all_ties(2)).rows, strides(FOUR, 2) == all_ties(4), strides(BENT, 2)[2], shifted(BENT, (1, 0, 2, 3)).rows[0], is_order(FOUR, (3, 1, 0, 2))]
 [((0,), (1, 2), (1, 2)), True, (0, 1, 2), (2, 3), True]
 """),
+    4: (4, """
+>>> [count_walks(FOUR, 0, 3, 2), count_walks(FOUR, 0, 3, 5), walk_counts(BENT, 2, 2), layers(FOUR, 0, 2), distance(FOUR, 0, 3), farthest(FOUR)]
+[1, 8, (2, 1, 1, 0), ((0,), (0, 1), (0, 1, 2, 3)), 2, 2]
+>>> [list(each_walk(FOUR, 1, 1, 3)), nth_walk(FOUR, 1, 1, 3, 1), walk_index(FOUR, (1, 3, 2, 1)), is_walk(FOUR, (0,)), is_walk(FOUR, (0, 2))]
+[[(1, 2, 0, 1), (1, 3, 2, 1)], (1, 3, 2, 1), 1, True, False]
+>>> loose = Web(((1,), (0,), (0,)))
+>>> [components(loose), period(loose, 0), period(loose, 2), distance(loose, 0, 2), distance(loose, 2, 2), period(FOUR, 1)]
+[((0, 1), (2,)), 2, 0, None, 0, 1]
+"""),
     5: (4, """
 >>> [is_lone(FOUR, 2), is_lone(FOUR, 4), depth_of(NINE), depth_of(BENT), depth_of(Web(((0,),))), flaws(BENT, 2), flaws(NINE, 2), flaws(NINE, 3)]
 [True, False, 2, None, 1, (2, 2), (0, 0), (0, 81)]
@@ -66,6 +79,29 @@ STAGES = {
 [(0, 0, 0, 0), (0, 1, 2, 0), 1]
 >>> between(BENT, 0, 0)
 raises NotLone
+"""),
+    7: (2, """
+>>> [count_closed(FOUR, 2, 10), count_rings(FOUR, 2, 4), census(NINE, 2, 4), is_ring(FOUR, (1, 2)), is_ring(FOUR, (1, 2, 1, 2)), is_ring(FOUR, (2, 1))]
+[1024, 3, {1: 3, 2: 3, 3: 8, 4: 18}, True, False, False]
+>>> [list(each_ring(FOUR, 4)), ring_of(FOUR, (2, 1, 2, 1, 2)), rings_at(FOUR, 2, 1, 4), rings_at(FOUR, 2, 1, 1)]
+[[(0, 0, 1, 2), (0, 1, 3, 2), (1, 3, 3, 2)], ((1, 2), 2), 3, 0]
+"""),
+    8: (4, """
+>>> [count_trees(FOUR, 0), list(each_tree(FOUR, 0)), is_tree(FOUR, 3, (1, 3, 0, None)), lone_trees(NINE), count_tours(FOUR)]
+[2, [(None, 2, 0, 2), (None, 3, 0, 2)], True, 729, 2]
+>>> [list(each_tour(FOUR)), is_tour(FOUR, (0, 1, 2, 0, 0, 1, 3, 3, 2, 0)), count_tours(BENT), lone_tours(word_web(2, 5)), count_trees(all_ties(3), 1)]
+[[(0, 0, 1, 2, 1, 3, 3, 2, 0), (0, 0, 1, 3, 3, 2, 1, 2, 0)], False, 1, 67108864, 3]
+>>> parts = tour_parts(FOUR, (0, 0, 1, 2, 1, 3, 3, 2, 0))
+>>> [parts, tour_of(FOUR, parts[0], parts[1]), tour_of(FOUR, (None, 2, 0, 2), ((1,), (3,), (1,), (3,))), any_tour(Web(((0, 1), ())))]
+[((None, 3, 0, 2), ((1,), (2,), (1,), (3,))), (0, 0, 1, 2, 1, 3, 3, 2, 0), (0, 0, 1, 3, 3, 2, 1, 2, 0), None]
+"""),
+    9: (3, """
+>>> [closure(NINE, 2, (0,)), closure(NINE, 2, (5,)), closure(NINE, 2, (0, 4)) == tuple(range(9)), is_closed(NINE, 2, (4, 5, 7, 8)), is_closed(NINE, 2, (0, 4))]
+[(0,), (4, 5, 7, 8), True, True, False]
+>>> [closed_sets(NINE, 2), closed_sets(FOUR, 2)]
+[((), (0,), (0, 1, 2, 3, 4, 5, 6, 7, 8), (4,), (4, 5, 7, 8), (8,)), ((), (0,), (0, 1, 2, 3), (3,))]
+>>> [part_web(NINE, 2, (4, 5, 7, 8)) == FOUR, len(fewest_generators(NINE, 2)), is_generating(NINE, 2, (3,)), is_generating(FOUR, 2, (0, 3)), len(longest_rise(NINE, 2))]
+[True, 1, True, True, 4]
 """),
     11: (5, """
 >>> [is_line(NINE, 2), clashing_pair(FOUR, 2), word_names(NINE, 2), is_word_paper(NINE, 2, ("clash", 0, 1, 4)), is_word_paper(NINE, 2, ("clash", 0, 0, 3))]

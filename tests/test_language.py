@@ -28,6 +28,25 @@ INTERFACE = {
         "line_web(web, *, times=1)", "line_ties(web)", "product(one, other)", "pair_of(one, other, place)",
         "place_in(one, other, pair)", "both(one, other)", "strides(web, steps)", "shifted(web, names)", "is_order(web, value)",
     ),
+    "onebetween.webs.walks": (
+        "is_walk(web, value)", "count_walks(web, one, other, steps)", "walk_counts(web, one, steps)", "layers(web, one, steps)",
+        "each_walk(web, one, other, steps)", "nth_walk(web, one, other, steps, index)", "walk_index(web, value)",
+        "distance(web, one, other)", "farthest(web)", "components(web)", "period(web, place)",
+    ),
+    "onebetween.lone.counts": (
+        "count_closed(web, depth, steps)", "count_rings(web, depth, length)", "census(web, depth, length)",
+        "is_ring(web, value)", "each_ring(web, length)", "ring_of(web, value)", "rings_at(web, depth, place, length)",
+    ),
+    "onebetween.lone.tours": (
+        "is_tree(web, root, value)", "count_trees(web, root)", "any_tree(web, root)", "each_tree(web, root)",
+        "is_tour(web, value)", "count_tours(web)", "any_tour(web)", "each_tour(web)", "tour_parts(web, tour)",
+        "tour_of(web, tree, orders)", "lone_trees(web)", "lone_tours(web)",
+    ),
+    "onebetween.lone.closures": (
+        "is_closed(web, depth, value)", "closure(web, depth, places)", "part_web(web, depth, places)",
+        "is_generating(web, depth, value)", "generators(web, depth)", "fewest_generators(web, depth)",
+        "closed_sets(web, depth)", "is_rise(web, depth, value)", "longest_rise(web, depth)",
+    ),
     "onebetween.lone.papers": (
         "is_lone(web, depth)", "depth_of(web)", "flaws(web, depth)", "two_walks(web, depth)", "missing_pair(web, depth)",
         "lone_paper(web, depth)", "is_lone_paper(web, depth, value)",
@@ -51,6 +70,10 @@ CONSTANTS = {
     "onebetween.webs.making": {"MAX_PLACES": 256},
     "onebetween.lone.papers": {"MAX_DEPTH": 8, "MAX_PAPER": 64},
     "onebetween.lone.middles": {"MAX_STEPS": 100},
+    "onebetween.webs.walks": {"MAX_STEPS": 200},
+    "onebetween.lone.counts": {"MAX_STEPS": 200, "MAX_LENGTH": 60},
+    "onebetween.lone.tours": {"MAX_PLACES": 64},
+    "onebetween.lone.closures": {"MAX_FORCE": 16, "MAX_SETS": 1000},
 }
 
 WEB = (
