@@ -191,6 +191,9 @@ class Tours(Case):
             self.assertIs(is_tour(DOT, value), False)
             self.assertIs(is_tour(BARE, value), False)
         self.assertIs(is_tour(LOOP, (0, 0)), True)
+        # All ties just once, but not back to the first place.
+        self.assertIs(is_tour(Web(((1,), ())), (0, 1)), False)
+        self.assertIs(is_tour(Web(((0, 1), (1,))), (0, 0, 1, 1)), False)
         self.assertSame([count_tours(LOOSE), any_tour(LOOSE)[:2]], [2, (1, 1)])
         self.assertSame(list(each_tour(both(DOT, LOOP))), [(1, 1)])
 
@@ -284,6 +287,13 @@ class Parts(Case):
         tree, orders = tour_parts(FOUR, any_tour(FOUR))
         self.assertRaisesJust(InvalidOperation, tour_of, both(FOUR, DOT), tree + (None,), orders + ((),))
         self.assertRaisesJust(InvalidOperation, tour_of, both(FOUR, DOT), tree, orders)
+
+    def test_right_parts_of_a_web_without_tours(self):
+        web = FOUR.without_tie(1, 2)
+        tree, orders = (None, 3, 0, 2), ((1,), (), (1,), (3,))
+        self.assertIs(is_tree(web, 0, tree), True)
+        self.assertRaisesJust(InvalidOperation, tour_of, web, tree, orders)
+        self.assertSame(tour_of(FOUR, tree, ((1,), (2,), (1,), (3,))), any_tour(FOUR))
 
     def test_wrong_tours(self):
         tour = any_tour(FOUR)

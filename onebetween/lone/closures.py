@@ -13,7 +13,7 @@ MAX_SETS = 1000
 def is_closed(web, depth, value):
     """Tell whether the value is a closed set."""
     _check(web, depth)
-    return _is_closed_set(web, depth, value)
+    return _is_closed_set(_ties_of(web), depth, value)
 
 
 def closure(web, depth, places):
@@ -25,7 +25,7 @@ def closure(web, depth, places):
 def part_web(web, depth, places):
     """Return the web of a closed set with at least one place."""
     _check_places(web, depth, places, 1)
-    if not _is_closed_set(web, depth, places):
+    if not _is_closed_set(_ties_of(web), depth, places):
         raise InvalidOperation("the set is not closed")
     return web.part(places)
 
@@ -73,7 +73,8 @@ def is_rise(web, depth, value):
     _check(web, depth)
     if not isinstance(value, tuple) or len(value) == 0:
         return False
-    if not all([_is_closed_set(web, depth, places) for places in value]):
+    ties = _ties_of(web)
+    if not all([_is_closed_set(ties, depth, places) for places in value]):
         return False
     if value[0] != () or value[-1] != tuple(range(len(web))):
         return False
@@ -158,12 +159,12 @@ def _generates(ties, depth, mask):
     return _closed(ties, depth, mask) == (1 << len(ties[0])) - 1
 
 
-def _is_closed_set(web, depth, value):
-    """Tell whether the value is a closed set of a web that is lone of the depth."""
-    if not is_ascending(value, len(web)):
+def _is_closed_set(ties, depth, value):
+    """Tell whether the value is a closed set of a web with these ties that is lone of the depth."""
+    if not is_ascending(value, len(ties[0])):
         return False
     mask = mask_of(value)
-    return _walked(_ties_of(web), depth, mask) & ~mask == 0
+    return _walked(ties, depth, mask) & ~mask == 0
 
 
 def _closed_masks(web, depth):

@@ -53,30 +53,31 @@ def each_ring(web, length):
 def each_ring_along(rows, ways, length, first):
     """Yield the rings of this length that begin with a place, ascending, along the ways back to it."""
     ring = [first]
-    # A ring begun so repeats its first places: how many these are, for each number of places so far.
-    parts = [1]
+    # A ring begun so repeats this many of its first places, over and over.
+    part = 1
     # For each further place of the ring the places that it will take there later, the next one last.
     later = []
     while True:
         while len(ring) < length:
-            least = ring[len(ring) - parts[-1]]
+            least = ring[len(ring) - part]
             nexts = _nexts(rows[ring[-1]], least, ways[length - len(ring)])
             if len(nexts) == 0:
                 break
             ring.append(nexts.pop())
             later.append(nexts)
             # With a greater place than that which would repeat, the ring repeats nothing so far.
-            parts.append(parts[-1] if ring[-1] == least else len(ring))
-        if parts[-1] == length:
+            if ring[-1] > least:
+                part = len(ring)
+        if part == length:
             yield tuple(ring)
         while len(later) > 0 and len(later[-1]) == 0:
             ring.pop()
-            parts.pop()
             later.pop()
         if len(later) == 0:
             return
+        # The least of the places, which could repeat, came first.
         ring[-1] = later[-1].pop()
-        parts[-1] = len(ring)
+        part = len(ring)
 
 
 def ring_of(web, value):
@@ -132,7 +133,7 @@ def _ways_back(columns, length, first):
 
     No ring that begins with this place passes those ahead of it, so these walks do not pass them, either.
     """
-    let = ((1 << len(columns)) - 1) & ~((1 << first) - 1)
+    let = ~((1 << first) - 1)
     ways = [1 << first]
     for _ in range(length):
         ways.append(step_from(columns, ways[-1]) & let)

@@ -120,7 +120,7 @@ def each_tour(web):
 def tour_parts(web, tour):
     """Return the pair of the tree and of the orders of a tour."""
     check_web(web)
-    if not _all_have_ties(web) or not _is_tour(web, tour):
+    if any([len(row) == 0 for row in web.rows]) or not _is_tour(web, tour):
         raise InvalidOperation("the web has no tours or a place without ties, or the value is no tour")
     _check_size(web)
     start = tour[0]
@@ -135,9 +135,10 @@ def tour_parts(web, tour):
 def tour_of(web, tree, orders):
     """Return the tour with a tree and orders."""
     check_web(web)
-    if not _all_have_ties(web) or not _has_tours(web):
-        raise InvalidOperation("the web has no tours, or a place without ties")
+    if not _has_tours(web):
+        raise InvalidOperation("the web has no tours")
     start, second = web.ties[0]
+    # A place without ties has no entry, so there is no tree, either.
     if not _is_tree(web, start, tree):
         raise InvalidOperation("this is no tree towards the first place of the least tie")
     # The one step of each place that the orders leave out.
@@ -152,7 +153,9 @@ def tour_of(web, tree, orders):
 
 def lone_trees(web):
     """Return how many trees towards each place a lone web has."""
-    _check_some_depth(web)
+    check_web(web)
+    if web.lone_depth == 0:
+        raise NotLone(None)
     degree = len(web[0])
     if degree == 1:
         return 1
@@ -161,8 +164,8 @@ def lone_trees(web):
 
 def lone_tours(web):
     """Return how many tours a lone web has."""
-    _check_some_depth(web)
-    return lone_trees(web) * raised(factorial(len(web[0]) - 1), len(web))
+    trees = lone_trees(web)
+    return trees * raised(factorial(len(web[0]) - 1), len(web))
 
 
 def _check_size(web):
@@ -182,13 +185,6 @@ def _check_root(web, root):
     check_web(web)
     check_place(web, root)
     _check_size(web)
-
-
-def _check_some_depth(web):
-    """Refuse what is no web, and a web that is lone of no depth."""
-    check_web(web)
-    if web.lone_depth == 0:
-        raise NotLone(None)
 
 
 def _column_masks(web):
@@ -232,11 +228,6 @@ def _with_entry(columns, place, entry):
     found = [column & ~(1 << place) for column in columns]
     found[entry] = found[entry] | (1 << place)
     return found
-
-
-def _all_have_ties(web):
-    """Tell whether each place has ties."""
-    return all([len(row) > 0 for row in web.rows])
 
 
 def _has_tours(web):

@@ -138,11 +138,11 @@ def period(web, place):
     check_place(web, place)
     ahead = _distances(_masks(web), place)
     behind = _distances([mask_of(column) for column in web.columns], place)
-    # The places that closed walks pass are those of its component.
     found = 0
     for one in ahead:
         for other in web[one]:
-            if one in behind and other in behind:
+            # Only ties that lead back to the place belong to closed walks from it.
+            if other in behind:
                 found = gcd(found, ahead[one] + 1 - ahead[other])
     return found
 
