@@ -161,6 +161,14 @@ class Generators(Case):
         self.assertSame([generators(all_ties(16), 1), fewest_generators(all_ties(16), 1)], [tuple(range(16))] * 2)
         self.assertSame([len(fewest_generators(NINE, 2)), len(fewest_generators(SIXTEEN, 2)), len(fewest_generators(word_web(2, 4), 4))], [1, 2, 1])
         self.assertTrue(generators(FULL, 1) == ALL)
+        # Here the last places are those that are not needed.
+        order = (0, 3, 12, 15) + tuple(place for place in range(16) if place not in (0, 3, 12, 15))
+        for names in (order, order[::-1]):
+            web = SIXTEEN.renamed(names)
+            told = generators(web, 2)
+            self.assertIs(is_generating(web, 2, told), True)
+            for place in told:
+                self.assertIs(is_generating(web, 2, tuple(other for other in told if other != place)), False)
         self.assertIs(is_generating(LOOP, 1, ()), False)
         self.assertIs(is_generating(LOOP, 1, (0,)), True)
         for web, depth in ((word_web(2, 8), 8), (word_web(16, 2), 2), (product(SIXTEEN, SIXTEEN), 2)):

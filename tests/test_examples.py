@@ -4,6 +4,7 @@ import doctest
 import importlib
 import re
 import unittest
+from pathlib import Path
 
 VALUES = """
 FOUR = Web(((0, 1), (2, 3), (0, 1), (2, 3)))
@@ -134,6 +135,10 @@ class Examples(unittest.TestCase):
         for stage, (many, text) in STAGES.items():
             with self.subTest(stage=stage):
                 self.check(text, many)
+
+    def test_readme(self):
+        text = (Path(__file__).resolve().parent.parent / "README.md").read_text()
+        self.check(text.replace("```", ""), text.count(">>>"))
 
     def check(self, text, many):
         # The document writes "raises NotLone" where Python writes a traceback.

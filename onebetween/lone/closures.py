@@ -42,13 +42,8 @@ def generators(web, depth):
     """Return a set that generates all places, and does not without any of its places."""
     _check(web, depth)
     ties = _ties_of(web)
-    found = 0
-    reached = 0
+    found = (1 << len(web)) - 1
     for place in range(len(web)):
-        if (reached >> place) & 1 == 0:
-            found = found | (1 << place)
-            reached = _closed(ties, depth, reached | (1 << place))
-    for place in places_of(found):
         if _generates(ties, depth, found & ~(1 << place)):
             found = found & ~(1 << place)
     return places_of(found)
@@ -58,8 +53,10 @@ def fewest_generators(web, depth):
     """Return a set of as few places as possible that generates all places."""
     _check_small(web, depth)
     ties = _ties_of(web)
-    needed = mask_of([place for place in range(len(web)) if not _generates(ties, depth, _all_but(web, place))])
-    return places_of(_fewest_with(ties, depth, needed))
+    everything = (1 << len(web)) - 1
+    # Most sets of a web of depth 1 need not be looked at: there each place is needed.
+    needed = [place for place in range(len(web)) if not _generates(ties, depth, everything & ~(1 << place))]
+    return places_of(_fewest_with(ties, depth, mask_of(needed)))
 
 
 def closed_sets(web, depth):
@@ -124,11 +121,6 @@ def _ties_of(web):
     return [mask_of(row) for row in web.rows], [mask_of(column) for column in web.columns]
 
 
-def _all_but(web, place):
-    """Return the mask of all places of the web but one."""
-    return (1 << len(web)) - 1 - (1 << place)
-
-
 def _closed(ties, depth, mask):
     """Return the mask of the closed set that the places of a mask generate."""
     ahead = -1
@@ -188,16 +180,9 @@ def _closed_masks(web, depth):
 
 def _fewest_with(ties, depth, needed):
     """Return the mask of as few places as possible, all those that are needed among them, that generate all."""
-    many = len(ties[0])
-    layer = [needed]
+    layer = {needed: True}
     while True:
-        wider = []
         for mask in layer:
             if _generates(ties, depth, mask):
                 return mask
-            # Places ahead of the greatest one that was added would only come in another order.
-            added = mask & ~needed
-            for place in range(added.bit_length(), many):
-                if (mask >> place) & 1 == 0:
-                    wider.append(mask | (1 << place))
-        layer = wider
+        layer = {mask | (1 << place): True for mask in layer for place in range(len(ties[0]))}
