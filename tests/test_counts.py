@@ -176,6 +176,11 @@ class Rings(Case):
             self.assertIs(is_ring(FOUR, value), False)
         self.assertIs(is_ring(FOUR, (1, 2)), True)
 
+    def test_errors_come_with_the_first_ring(self):
+        for given in ((None, 3), (FOUR, 0), (FOUR, 61), (FOUR, True)):
+            found = each_ring(*given)
+            self.assertRaises((ValueError, IndexError), next, found)
+
     def test_wrong(self):
         self.assertRefusals(is_ring, (FOUR, (1, 2)), web_rule())
         for web in (FOUR, BENT, DOT):

@@ -1,6 +1,7 @@
 """The form of the package's files: the rules of LANGUAGE.md that a short test can see."""
 
 import ast
+import builtins
 import importlib
 import inspect
 import re
@@ -90,6 +91,10 @@ def name_of(path):
     return ".".join(path.relative_to(ROOT).with_suffix("").parts)
 
 
+def functions(tree):
+    return [node for node in ast.walk(tree) if isinstance(node, ast.FunctionDef)]
+
+
 def without_docstrings(tree):
     """Return the text of the code without comments and docstrings."""
     for node in ast.walk(tree):
@@ -156,6 +161,39 @@ class Files(unittest.TestCase):
                     self.assertEqual(node.level, 0)
                     for alias in node.names:
                         self.assertIn(alias.name, defined[node.module], path)
+
+    def test_names_have_one_meaning(self):
+        for path, tree in trees():
+            taken = set(dir(builtins))
+            for node in tree.body:
+                if isinstance(node, ast.ImportFrom):
+                    taken.update(alias.name for alias in node.names)
+                elif hasattr(node, "name"):
+                    taken.add(node.name)
+            for call in functions(tree):
+                names = {node.arg for node in ast.walk(call) if isinstance(node, ast.arg)}
+                names.update(node.id for node in ast.walk(call) if isinstance(node, ast.Name) and isinstance(node.ctx, ast.Store))
+                self.assertEqual(names & taken, set(), (path, call.name))
+
+    def test_imports_are_used(self):
+        for path, tree in trees():
+            used = {node.id for node in ast.walk(tree) if isinstance(node, ast.Name)}
+            for node in tree.body:
+                if isinstance(node, ast.ImportFrom):
+                    self.assertEqual({alias.name for alias in node.names} - used, set(), path)
+
+    def test_generators(self):
+        calls = [call for _, tree in trees() for call in functions(tree)]
+        generators = {call.name for call in calls if any(isinstance(node, (ast.Yield, ast.YieldFrom)) for node in ast.walk(call))}
+        self.assertLessEqual({"each_walk", "each_ring", "each_tree", "each_tour"}, generators)
+        for name in generators:
+            self.assertEqual(len([call for call in calls if call.name == name]), 1, name)
+        for path, tree in trees():
+            iterated = [node.iter for node in ast.walk(tree) if isinstance(node, ast.For)]
+            iterated.extend(node.value for node in ast.walk(tree) if isinstance(node, ast.YieldFrom))
+            for node in ast.walk(tree):
+                if isinstance(node, ast.Name) and node.id in generators:
+                    self.assertIn(node, [call.func for call in iterated if isinstance(call, ast.Call)], path)
 
     def test_barred_words(self):
         for path, tree in trees():

@@ -249,6 +249,13 @@ def parts_by_force(tour):
 TOURED = (FOUR, BENT, LOOP, PAIR, all_ties(2), all_ties(3), DEEP, product(PAIR, all_ties(2)), FOUR.renamed((3, 0, 2, 1)), RING_64)
 
 
+class Errors(Case):
+    def test_errors_come_with_the_first_result(self):
+        for call, given in ((each_tree, (None, 0)), (each_tree, (FOUR, 4)), (each_tree, (RING_65, 0)), (each_tour, (None,)), (each_tour, (RING_65,))):
+            found = call(*given)
+            self.assertRaises((ValueError, IndexError, TooMany), next, found)
+
+
 class Parts(Case):
     def test_by_force(self):
         for web in TOURED:
