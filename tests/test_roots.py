@@ -172,7 +172,7 @@ def exchanged(names, order):
 WORD_WEBS = ((FOUR, 2), (MIXED, 2), (DEEP, 3), (CHANGED, 3), (word_web(3, 2), 2), (word_web(2, 4).turned(), 4), (product(FOUR, FOUR), 2),
              (all_ties(3), 1), (all_ties(1), 1), (LOOP, 8), (all_ties(2), 1))
 NO_WORD_WEBS = ((NINE, 2, 0), (DEEPER, 3, 1), (DEEPEST, 4, 2), (product(NINE, FOUR), 2, 0), (NINE.turned(), 2, 0), (DEEPER.turned(), 3, 1),
-                (ODD, 3, 0), (line_web(ODD), 4, 1), (line_web(ODD, times=2), 5, 2))
+                (ODD, 3, 0), (ODD.turned(), 3, 0), (ODD.renamed((0, 1, 2, 4, 5, 6, 3, 7)), 3, 0), (line_web(ODD), 4, 1), (line_web(ODD, times=2), 5, 2))
 
 
 class Names(Case):
