@@ -110,7 +110,8 @@ def _check_ends(web, depth, one, other):
 
 def _only_walk(web, depth, one, other):
     """Return the only walk of so many steps between two places of a web that is lone."""
-    return [walk for walk in walks_from(web, one, depth) if walk[-1] == other][0]
+    rows = web.rows
+    return [walk + (other,) for walk in walks_from(web, one, depth - 1) if other in rows[walk[-1]]][0]
 
 
 def _table_of(web):
