@@ -47,10 +47,10 @@ def each_ring(web, length):
     for first in range(len(rows)):
         ways = _ways_back(columns, length, first)
         if has_place(ways[length], first):
-            yield from each_ring_along(rows, ways, length, first)
+            yield from _rings_along(rows, ways, length, first)
 
 
-def each_ring_along(rows, ways, length, first):
+def _rings_along(rows, ways, length, first):
     """Yield the rings of this length that begin with a place, ascending, along the ways back to it."""
     ring = [first]
     # A ring begun so repeats this many of its first places, over and over.
