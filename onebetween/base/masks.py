@@ -10,6 +10,9 @@ def mask_of(places):
 
 def places_of(mask):
     """Return the ascending tuple of the places of a mask."""
+    # Long ways through a web go from one place to one place, which is found without its figures.
+    if mask != 0 and mask & (mask - 1) == 0:
+        return (mask.bit_length() - 1,)
     return tuple([place for place, bit in enumerate(f"{mask:b}"[::-1]) if bit == "1"])
 
 
