@@ -137,6 +137,38 @@ class Closed(Case):
             self.assertEqual(self.assertRaisesJust(TooMany, fewest_generators, web, depth).limit, 16)
 
 
+class ManySets(Case):
+    def test_depth_1(self):
+        for many in range(1, 10):
+            for web in (word_web(many, 1), all_ties(many)):
+                self.assertSame(closed_sets(web, 1), tuple(sorted(subsets(many))))
+                rise = longest_rise(web, 1)
+                self.assertIs(is_rise(web, 1, rise), True)
+                self.assertSame([len(places) for places in rise], list(range(many + 1)))
+                self.assertSame((rise[0], rise[-1]), ((), tuple(range(many))))
+                for low, high in zip(rise, rise[1:]):
+                    self.assertLess(set(low), set(high))
+                    self.assertEqual(high, tuple(sorted(set(high))))
+        for many, limit in ((10, 1000), (16, 1000), (17, 16)):
+            for call in (closed_sets, longest_rise):
+                for web in (word_web(many, 1), all_ties(many)):
+                    self.assertEqual(self.assertRaisesJust(TooMany, call, web, 1).limit, limit)
+                    self.assertRefused(NotLone, "reason", 2, call, web, 2)
+
+    def test_greater_depths_by_force(self):
+        for web, depth in ((FOUR, 2), (NINE, 2), (word_web(3, 2), 2), (SIXTEEN, 2), (word_web(4, 2), 2), (DEEP, 3), (line_web(FOUR), 3),
+                           (word_web(2, 4), 4), (line_web(DEEP), 4), (NINE.turned(), 2)):
+            table = walk_table(web, depth)
+            masks = {pair: sum(1 << place for place in walk) for pair, walk in table.items()}
+            found = []
+            for mask in range(1 << len(web)):
+                places = tuple(place for place in range(len(web)) if mask >> place & 1)
+                if all(masks[pair] & ~mask == 0 for pair in itertools.product(places, repeat=2)):
+                    found.append(places)
+            self.assertSame(closed_sets(web, depth), tuple(sorted(found)))
+            self.assertEqual(len(longest_rise(web, depth)), longest(found))
+
+
 class Generators(Case):
     def test_by_force(self):
         for web, depth in SMALL + ((SIXTEEN, 2), (word_web(2, 4), 4), (word_web(4, 2), 2)):

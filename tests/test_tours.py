@@ -6,6 +6,7 @@ import unittest
 
 from onebetween.base.matrices import determinant
 from onebetween.errors import InvalidNumber, InvalidOperation, NotLone, TooMany
+from onebetween.lone.papers import depth_of
 from onebetween.lone.tours import (
     MAX_PLACES, any_tour, any_tree, count_tours, count_trees, each_tour, each_tree, is_tour, is_tree, lone_tours, lone_trees,
     tour_of, tour_parts,
@@ -247,6 +248,91 @@ def parts_by_force(tour):
 
 
 TOURED = (FOUR, BENT, LOOP, PAIR, all_ties(2), all_ties(3), DEEP, product(PAIR, all_ties(2)), FOUR.renamed((3, 0, 2, 1)), RING_64)
+
+
+# Webs that are lone of depths 1 to 3, of at most 64 places: word webs and others.
+LONE = (
+    [word_web(degree, 1) for degree in (1, 2, 3, 8, 63, 64)] + [word_web(degree, 2) for degree in range(2, 9)]
+    + [word_web(degree, 3) for degree in (2, 3, 4)]
+    + [NINE, NINE.turned(), line_web(NINE), line_web(FOUR), product(NINE, FOUR), product(FOUR, NINE.turned()), product(product(FOUR, FOUR), FOUR),
+       product(line_web(FOUR), word_web(2, 3)), product(all_ties(8), all_ties(8))]
+)
+# Webs that are not lone, some of them with tours, and what is their number of tours.
+UNLIKE = (
+    BENT, Web(((1,), (2,), (0, 3), (2,))), Web(((0, 1), (0, 2), (1, 3), (2,))), Web(((1, 2), (0, 2), (0, 1))), both(PAIR, LOOP), both(DOT, BENT),
+    both(BENT, DOT), Web(((0,), (1,))), Web(((1, 2, 3), (0,), (0,), (0,))), Web(((1, 2, 3), (0, 2), (0, 1), (0,))), Web(((), (2, 3), (1,), (1,))),
+    product(PAIR, all_ties(2)), FOUR.with_tie(0, 3).with_tie(3, 0), FOUR.without_tie(0, 0), FOUR.without_tie(1, 2),
+)
+
+
+def shuffled(many):
+    """Return an order of so many places that leaves few of them where they are."""
+    step = next(step for step in range(many // 2 + 1, many + 2) if math.gcd(step, many) == 1)
+    return tuple((place * step + 3) % many for place in range(many))
+
+
+class Numbers(Case):
+    def test_lone_webs(self):
+        for web in LONE:
+            degree, depth = len(web.rows[0]), depth_of(web)
+            self.assertEqual(degree ** depth, len(web))
+            trees_of = degree ** (len(web) - 1 - depth) if degree > 1 else 1
+            tours_of = trees_of * math.factorial(degree - 1) ** len(web)
+            for some in (web, web.renamed(shuffled(len(web)))):
+                self.assertTrue(count_tours(some) == tours_of)
+                self.assertTrue(lone_tours(some) == tours_of)
+                for root in (0, len(web) - 1):
+                    self.assertTrue(count_trees(some, root) == trees_of)
+
+    def test_small_webs_by_force(self):
+        for web in UNLIKE + (FOUR, all_ties(2), all_ties(3), DEEP):
+            for some in (web, web.renamed(shuffled(len(web))), web.turned()):
+                self.assertSame(count_tours(some), len(tours(some)))
+                for root in range(len(some)):
+                    self.assertSame(count_trees(some, root), len(trees(some, root)))
+
+    def test_first_tours(self):
+        for web in LONE + list(UNLIKE):
+            for some in (web, web.renamed(shuffled(len(web))), web.turned()):
+                told = any_tour(some)
+                self.assertEqual(told, first_tour(some))
+                self.assertEqual(told is None, count_tours(some) == 0)
+                if told is not None:
+                    self.assertIs(is_tour(some, told), True)
+                    self.assertEqual(told, least_tour(some))
+
+    def test_dense_webs_without_some_rounds(self):
+        # Tours of webs from which closed walks are taken: as many ties from each place as to it.
+        web = word_web(8, 2)
+        for taken in ((0, 1, 8, 0), (1, 9, 8, 1), (63, 63), (5, 41, 13, 44, 37, 40, 5)):
+            less = web
+            for one, other in zip(taken, taken[1:]):
+                less = less.without_tie(one, other)
+            self.assertEqual(any_tour(less), least_tour(less))
+            found = [tour for tour, _ in zip(each_tour(less), range(30))]
+            self.assertEqual(found, sorted(set(found)))
+            self.assertTrue(all(is_tour(less, tour) for tour in found))
+
+
+def least_tour(web):
+    """Return the least tour: the least next place from which all ties that are left can still be passed."""
+    left = {place: list(row) for place, row in enumerate(web.rows)}
+    tour = list(web.ties[0])
+    left[tour[0]].remove(tour[1])
+    while any(left.values()):
+        place = tour[-1]
+        for after in list(left[place]):
+            left[place].remove(after)
+            seen, new = {after}, [after]
+            while new:
+                more = [other for one in new for other in left[one] if other not in seen]
+                seen.update(more)
+                new = sorted(set(more))
+            if all(one in seen for one, row in left.items() if row):
+                tour.append(after)
+                break
+            left[place] = sorted(left[place] + [after])
+    return tuple(tour)
 
 
 class Errors(Case):

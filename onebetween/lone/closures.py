@@ -82,9 +82,12 @@ def is_rise(web, depth, value):
 def longest_rise(web, depth):
     """Return a rise of as many closed sets as possible."""
     _check_small(web, depth)
+    masks = _closed_masks(web, depth)
+    if _has_all_sets_closed(web):
+        return tuple([tuple(range(many)) for many in range(len(web) + 1)])
     rises = {}
     # Smaller sets come first, so that the rises to all parts of a set are known.
-    for mask in sorted(_closed_masks(web, depth), key=size_of_mask):
+    for mask in sorted(masks, key=size_of_mask):
         best = ()
         for part, rise in rises.items():
             if part & ~mask == 0 and len(rise) > len(best):
@@ -159,23 +162,36 @@ def _is_closed_set(ties, depth, value):
     return _walked(ties, depth, mask) & ~mask == 0
 
 
+def _has_all_sets_closed(web):
+    """Tell whether each set of places of a lone web is closed: then walks of one step pass no third place."""
+    return web.lone_depth == 1
+
+
 def _closed_masks(web, depth):
     """Return the list of the masks of all closed sets."""
+    if _has_all_sets_closed(web):
+        many = 1 << len(web)
+        _check_sets(many)
+        return list(range(many))
     ties = _ties_of(web)
     found = {0: True}
-    layer = [0]
-    while len(layer) > 0:
-        nexts = []
-        for mask in layer:
-            for place in range(len(web)):
-                wider = _closed(ties, depth, mask | (1 << place))
-                if wider not in found:
-                    found[wider] = True
-                    nexts.append(wider)
-                    if len(found) > MAX_SETS:
-                        raise TooMany(MAX_SETS)
-        layer = nexts
+    # The closed sets to which no place has been added yet.
+    left = [0]
+    while len(left) > 0:
+        mask = left.pop()
+        for place in range(len(web)):
+            wider = _closed(ties, depth, mask | (1 << place))
+            if wider not in found:
+                found[wider] = True
+                left.append(wider)
+                _check_sets(len(found))
     return list(found)
+
+
+def _check_sets(many):
+    """Refuse so many closed sets if these are too many."""
+    if many > MAX_SETS:
+        raise TooMany(MAX_SETS)
 
 
 def _fewest_with(ties, depth, needed):

@@ -2,7 +2,7 @@
 
 from math import factorial
 
-from onebetween.base.masks import has_place, mask_of, places_of, spread_from
+from onebetween.base.masks import has_place, mask_of, spread_from, step_from
 from onebetween.base.matrices import determinant
 from onebetween.base.numbers import raised
 from onebetween.base.words import is_within
@@ -69,6 +69,8 @@ def is_tour(web, value):
 def count_tours(web):
     """Return how many tours there are."""
     _check_small(web)
+    if web.lone_depth > 0:
+        return lone_tours(web)
     if not _has_tours(web):
         return 0
     # Places without ties have no part in a tour, and leave no tree towards the others.
@@ -97,24 +99,27 @@ def each_tour(web):
     rows = [mask_of(row) for row in web.rows]
     columns = _column_masks(web)
     _take_or_put_back(rows, columns, tour[0], tour[1])
-    # For each step behind the first one the places to which it will go later, the next one last.
+    # For each step behind the first one the mask of the places to which it may go later.
     later = []
     while True:
         while len(tour) <= steps:
-            nexts = _open_nexts(rows, columns, tour[-1])
-            tour.append(nexts.pop())
-            later.append(nexts)
-            _take_or_put_back(rows, columns, tour[-2], tour[-1])
+            ways = rows[tour[-1]]
+            after = _first_open(rows, columns, tour[-1], ways)
+            later.append(_above(ways, after))
+            _take_or_put_back(rows, columns, tour[-1], after)
+            tour.append(after)
         yield tuple(tour)
-        while len(later) > 0 and len(later[-1]) == 0:
+        after = None
+        while after is None and len(later) > 0:
+            ways = later.pop()
             _take_or_put_back(rows, columns, tour[-2], tour[-1])
             tour.pop()
-            later.pop()
-        if len(later) == 0:
+            after = _first_open(rows, columns, tour[-1], ways)
+        if after is None:
             return
-        _take_or_put_back(rows, columns, tour[-2], tour[-1])
-        tour[-1] = later[-1].pop()
-        _take_or_put_back(rows, columns, tour[-2], tour[-1])
+        later.append(_above(ways, after))
+        _take_or_put_back(rows, columns, tour[-1], after)
+        tour.append(after)
 
 
 def tour_parts(web, tour):
@@ -208,6 +213,8 @@ def _is_tree(web, root, value):
 
 def _count_trees(web, root):
     """Return how many trees towards the root there are, by the theorem about matrices and trees."""
+    if web.lone_depth > 0:
+        return lone_trees(web)
     places = [place for place in range(len(web)) if place != root]
     matrix = []
     for one in places:
@@ -258,13 +265,35 @@ def _take_or_put_back(rows, columns, one, other):
     columns[other] = columns[other] ^ (1 << one)
 
 
-def _open_nexts(rows, columns, place):
-    """Return the places to which a tour can go from here, if all ties that are left belong to it, descending."""
-    nexts = places_of(rows[place])
-    if len(nexts) > 1:
-        # The tour has to come back here for the other ties.
-        nexts = places_of(rows[place] & spread_from(columns, 1 << place, 0))
-    return list(nexts[::-1])
+def _first_open(rows, columns, place, ways):
+    """Return the least of some next places to which a tour can go from here, None if there is none."""
+    alone = rows[place] & (rows[place] - 1) == 0
+    left = ways
+    while left != 0:
+        after = (left & -left).bit_length() - 1
+        # All ties that are left have to belong to the tour, so it has to come back here for the other ones.
+        if alone or _leads_back(rows[after] | (1 << after), columns, place):
+            return after
+        left = _above(left, after)
+    return None
+
+
+def _leads_back(nexts, columns, place):
+    """Tell whether steps lead to a place from one of these next places."""
+    seen = 1 << place
+    # A step or two are mostly enough, so that the search goes no farther than it has to.
+    layer = seen | columns[place]
+    while layer & nexts == 0:
+        seen = seen | layer
+        layer = step_from(columns, layer) & ~seen
+        if layer == 0:
+            return False
+    return True
+
+
+def _above(mask, place):
+    """Return the mask of those places of a mask that are greater than a place."""
+    return mask & -(2 << place)
 
 
 def _are_orders(web, fixed, orders):
