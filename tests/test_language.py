@@ -8,6 +8,8 @@ import re
 import unittest
 from pathlib import Path
 
+from onebetween.text.shell import Shell
+from onebetween.use.keeper import Keeper
 from onebetween.webs.webs import Web
 
 ROOT = Path(__file__).resolve().parent.parent
@@ -63,6 +65,35 @@ INTERFACE = {
         "word_names(web, depth)", "is_word_names(web, depth, value)", "word_paper(web, depth)",
         "is_word_paper(web, depth, value)", "plain_root(web, depth)",
     ),
+    "onebetween.lone.switches": (
+        "twins_of(web, *, backward=False)", "classes_at(web, u, v, *, backward=False)", "free_classes(web, u, v, *, backward=False)",
+        "switched(web, u, v, places, *, backward=False)", "switched_all(web, moves, *, backward=False)",
+        "each_switch(web, *, backward=False)", "is_switch(web, other, *, backward=False)",
+    ),
+    "onebetween.lone.maps": (
+        "is_map(one, other, value)", "spread(one, other, seeds)", "each_map(one, other)", "count_maps(one, other)",
+        "image_of(one, other, value)", "behind(first, second)", "are_alike(one, other)", "any_likeness(one, other)",
+        "is_likeness(one, other, value)", "own_maps(web)", "folds(one, other)",
+    ),
+    "onebetween.lone.refills": (
+        "refills(web, depth, places)", "count_refills(web, depth, places)", "sure_ties(web, depth, places)",
+        "open_ties(web, depth, places)", "is_refill(web, depth, places, value)",
+    ),
+    "onebetween.terms.terms": (
+        "is_term(value)", "size_of(term)", "letters_of(term)", "levels_of(term)", "part_at(term, index)",
+        "replaced(term, index, other)", "sides_of(term)", "product_of(one, other)", "substituted(term, terms)", "mirrored(term)",
+        "matched(pattern, term)", "count_terms(letters, size)", "each_term(letters, size)", "value_of(web, term, values)",
+        "text_of(term)", "read_text(text)",
+    ),
+    "onebetween.terms.forms": (
+        "steps_down(term)", "is_form(value)", "form_of(term)", "form_chain(term)", "are_equal(one, other)",
+        "equality_paper(one, other)", "is_equality_paper(one, other, value)", "word_ends(term)", "are_equal_in_words(one, other)",
+        "parting_values(web, one, other)", "holds_in(web, one, other)", "between_forms(one, other)", "is_tied_form(one, other)",
+        "each_form(letters, size)",
+    ),
+    "onebetween.text.texts": (
+        "write_web(web)", "read_web(text)", "write_walk(value)", "read_walk(text)", "write_paper(paper)", "read_paper(text)",
+    ),
 }
 
 CONSTANTS = {
@@ -75,12 +106,42 @@ CONSTANTS = {
     "onebetween.lone.counts": {"MAX_STEPS": 200, "MAX_LENGTH": 60},
     "onebetween.lone.tours": {"MAX_PLACES": 64},
     "onebetween.lone.closures": {"MAX_FORCE": 16, "MAX_SETS": 1000},
+    "onebetween.lone.maps": {"MAX_PLACES": 27},
+    "onebetween.lone.refills": {"MAX_REFILLS": 2000},
+    "onebetween.terms.terms": {"MAX_LETTERS": 200},
+    "onebetween.terms.forms": {"MAX_CHAIN": 400, "MAX_VALUES": 20000},
 }
 
-WEB = (
-    "from_lines(lines)", "turned(self)", "renamed(self, names)", "with_tie(self, one, other)", "without_tie(self, one, other)",
-    "with_row(self, place, row)", "part(self, places)",
-)
+# The classes of the interface: how they are called, and their methods and properties.
+CLASSES = {
+    Web: ("onebetween.webs.webs", "(rows)", (
+        "from_lines(lines)", "turned(self)", "renamed(self, names)", "with_tie(self, one, other)", "without_tie(self, one, other)",
+        "with_row(self, place, row)", "part(self, places)", "__getitem__(self, place)", "__contains__(self, value)", "__len__(self)",
+        "__iter__(self)", "__eq__(self, value)", "__str__(self)",
+    ), ("rows", "columns", "ties", "loops", "lines", "degree")),
+    Keeper: ("onebetween.use.keeper", "(web)", (
+        "switch(self, u, v, places, *, backward=False)", "rename(self, names)", "turn(self)", "lock(self, one, other)",
+        "unlock(self, one, other)", "mark(self, letter, place)", "unmark(self, letter)", "find(self, term)",
+        "moves(self, *, backward=False)", "undo(self, *, many=1)", "twin(self)", "trial(self)", "during(self, call)",
+        "__contains__(self, value)", "__len__(self)", "__eq__(self, value)", "__str__(self)",
+    ), ("web", "locks", "marks", "changes")),
+    Shell: ("onebetween.text.shell", "(keeper)", ("keeper(self)", "__call__(self, command)", "__str__(self)"), ()),
+}
+
+# The builtins that may be called (L8), and the methods of builtin values that may be (L25).
+BUILTINS = {
+    "iter", "len", "range", "enumerate", "zip", "min", "max", "sum", "abs", "sorted", "reversed", "int", "str", "bool", "list", "tuple", "dict",
+    "set", "isinstance", "ord", "repr", "any", "all", "divmod", "property", "staticmethod", "classmethod", "ArithmeticError", "IndexError",
+    "KeyError", "LookupError", "OverflowError", "RuntimeError", "ValueError", "TypeError",
+}
+METHODS = {
+    "append", "clear", "copy", "count", "endswith", "extend", "find", "get", "index", "insert", "isalnum", "isalpha", "isdigit", "islower",
+    "isspace", "isupper", "items", "join", "keys", "ljust", "lower", "lstrip", "partition", "pop", "remove", "replace", "reverse", "rfind",
+    "rjust", "rpartition", "rsplit", "rstrip", "setdefault", "split", "splitlines", "startswith", "strip", "update", "upper", "values",
+    "zfill", "bit_length", "isascii",
+}
+# What walks a generator at once (L23).
+WALKERS = ("list", "tuple", "sorted", "sum", "min", "max", "any", "all", "enumerate", "zip", "dict")
 
 
 def trees():
@@ -116,13 +177,22 @@ class Interface(unittest.TestCase):
             for name, value in constants.items():
                 self.assertEqual(getattr(importlib.import_module(module), name), value)
 
-    def test_web(self):
-        self.assertEqual(str(inspect.signature(Web)), "(rows)")
-        self.assertEqual(Web.__module__, "onebetween.webs.webs")
-        for text in WEB:
-            name = text.split("(")[0]
-            self.assertIn(name, vars(Web))
-            self.assertEqual(name + str(inspect.signature(getattr(Web, name))), text)
+    def test_classes(self):
+        for some, (module, call, methods, properties) in CLASSES.items():
+            self.assertEqual(str(inspect.signature(some)), call)
+            self.assertEqual(some.__module__, module)
+            for text in methods:
+                name = text.split("(")[0]
+                self.assertIn(name, vars(some))
+                self.assertEqual(name + str(inspect.signature(getattr(some, name))), text)
+            for name in properties:
+                self.assertIsInstance(vars(some)[name], property)
+
+    def test_all_modules_are_listed(self):
+        listed = set(INTERFACE) | {module for module, _, _, _ in CLASSES.values()} | {"onebetween.errors"}
+        for module in listed:
+            self.assertTrue((ROOT / (module.replace(".", "/") + ".py")).is_file(), module)
+        self.assertEqual(len(listed), 20)
 
 
 class Files(unittest.TestCase):
@@ -186,15 +256,124 @@ class Files(unittest.TestCase):
     def test_generators(self):
         calls = [call for _, tree in trees() for call in functions(tree)]
         generators = {call.name for call in calls if any(isinstance(node, (ast.Yield, ast.YieldFrom)) for node in ast.walk(call))}
-        self.assertLessEqual({"each_walk", "each_ring", "each_tree", "each_tour"}, generators)
+        self.assertLessEqual({"each_walk", "each_ring", "each_tree", "each_tour", "each_switch", "each_map", "each_term", "each_form"}, generators)
         for name in generators:
             self.assertEqual(len([call for call in calls if call.name == name]), 1, name)
         for path, tree in trees():
             iterated = [node.iter for node in ast.walk(tree) if isinstance(node, ast.For)]
             iterated.extend(node.value for node in ast.walk(tree) if isinstance(node, ast.YieldFrom))
             for node in ast.walk(tree):
+                if isinstance(node, ast.Call) and isinstance(node.func, ast.Name) and node.func.id in WALKERS:
+                    iterated.extend(node.args[:1])
+            for node in ast.walk(tree):
                 if isinstance(node, ast.Name) and node.id in generators:
                     self.assertIn(node, [call.func for call in iterated if isinstance(call, ast.Call)], path)
+                # Beside a generator's call stand only names, attributes and literals.
+                if isinstance(node, ast.Call) and isinstance(node.func, ast.Name) and node.func.id in generators:
+                    self.assertTrue(all(isinstance(given, (ast.Name, ast.Attribute, ast.Constant)) for given in node.args), path)
+
+    def test_builtins(self):
+        for path, tree in trees():
+            for node in ast.walk(tree):
+                if isinstance(node, ast.Name) and hasattr(builtins, node.id):
+                    self.assertIn(node.id, BUILTINS | {"_"}, (path, node.lineno))
+
+    def test_methods(self):
+        own = {call.name for _, tree in trees() for call in functions(tree)}
+        for path, tree in trees():
+            for node in ast.walk(tree):
+                if isinstance(node, ast.Call) and isinstance(node.func, ast.Attribute):
+                    self.assertIn(node.func.attr, METHODS | own, (path, node.lineno))
+                    if node.func.attr in METHODS:
+                        self.assertEqual(node.keywords, [], (path, node.lineno))
+
+    def test_calls_at_once(self):
+        # Ranges, zips, enumerations and views are walked where they stand.
+        for path, tree in trees():
+            walked = []
+            for node in ast.walk(tree):
+                if isinstance(node, (ast.For, ast.comprehension)):
+                    walked.append(node.iter)
+                if isinstance(node, ast.Call) and isinstance(node.func, ast.Name) and node.func.id in WALKERS + ("reversed",):
+                    walked.extend(node.args)
+                if isinstance(node, ast.Compare):
+                    walked.extend(node.comparators)
+            for node in ast.walk(tree):
+                if not isinstance(node, ast.Call):
+                    continue
+                if isinstance(node.func, ast.Name) and node.func.id in ("range", "zip", "enumerate", "reversed"):
+                    self.assertIn(node, walked, (path, node.lineno))
+                if isinstance(node.func, ast.Attribute) and node.func.attr in ("items", "keys", "values"):
+                    self.assertIn(node, walked, (path, node.lineno))
+
+    def test_sets(self):
+        # Sets are not kept: they stand in sorted or len, or behind in or beside ==.
+        for path, tree in trees():
+            let = []
+            for node in ast.walk(tree):
+                if isinstance(node, ast.Call) and isinstance(node.func, ast.Name) and node.func.id in ("sorted", "len"):
+                    let.extend(node.args)
+                if isinstance(node, ast.Compare):
+                    let.extend([node.left] + node.comparators)
+            for node in ast.walk(tree):
+                made = isinstance(node, ast.Call) and isinstance(node.func, ast.Name) and node.func.id in ("set", "frozenset")
+                if made or isinstance(node, (ast.Set, ast.SetComp)):
+                    self.assertIn(node, let, (path, node.lineno))
+
+    def test_catches(self):
+        errors = {node.name for node in ast.walk(ast.parse((PACKAGE / "errors.py").read_text())) if isinstance(node, ast.ClassDef)}
+        for path, tree in trees():
+            for node in ast.walk(tree):
+                if isinstance(node, ast.ExceptHandler):
+                    self.assertIsInstance(node.type, ast.Name, path)
+                    self.assertIn(node.type.id, errors | {"KeyError", "ZeroDivisionError"}, path)
+                if isinstance(node, ast.Raise) and node.exc is not None:
+                    self.assertIsInstance(node.exc, ast.Call, path)
+                    self.assertIn(node.exc.func.id, errors | {"TypeError"}, path)
+
+    def test_statements(self):
+        let = (
+            ast.FunctionDef, ast.ClassDef, ast.Return, ast.Assign, ast.AugAssign, ast.For, ast.While, ast.If, ast.Raise, ast.Try, ast.ImportFrom,
+            ast.Expr, ast.Pass, ast.Break, ast.Continue,
+        )
+        for path, tree in trees():
+            for node in ast.walk(tree):
+                if isinstance(node, ast.stmt):
+                    self.assertIsInstance(node, let, (path, node.lineno))
+            for node in tree.body:
+                self.assertIsInstance(node, (ast.FunctionDef, ast.ClassDef, ast.Assign, ast.ImportFrom, ast.Expr), path)
+
+    def test_no_sort_of_lists_and_no_percent(self):
+        for path, tree in trees():
+            for node in ast.walk(tree):
+                if isinstance(node, ast.Attribute):
+                    self.assertNotEqual(node.attr, "sort", path)
+            for node in ast.walk(ast.parse(without_docstrings(tree))):
+                if isinstance(node, ast.Constant) and isinstance(node.value, str):
+                    self.assertNotIn("%", node.value, path)
+
+    def test_names_of_methods_and_attributes(self):
+        methods, stored, properties = set(), set(), set()
+        for _, tree in trees():
+            for some in ast.walk(tree):
+                if isinstance(some, ast.ClassDef):
+                    for call in functions(some):
+                        kind = properties if any(getattr(node, "id", "") == "property" for node in call.decorator_list) else methods
+                        kind.add(call.name)
+                if isinstance(some, ast.Attribute) and isinstance(some.ctx, ast.Store):
+                    stored.add(some.attr)
+        self.assertEqual(methods & stored, set())
+        self.assertEqual(properties & (stored | methods), set())
+        kinds = (str, int, list, dict, tuple, set, bytes)
+        self.assertEqual({name for name in properties | stored if any(hasattr(kind, name) for kind in kinds)}, set())
+
+    def test_imports_make_no_ring(self):
+        from_path = {name_of(path): [node.module for node in tree.body if isinstance(node, ast.ImportFrom)] for path, tree in trees()}
+        ahead = {name: {other for other in others if other in from_path} for name, others in from_path.items()}
+        while ahead:
+            last = [name for name, others in ahead.items() if not others & set(ahead)]
+            self.assertNotEqual(last, [], sorted(ahead))
+            ahead = {name: others for name, others in ahead.items() if name not in last}
 
     def test_barred_words(self):
         for path, tree in trees():

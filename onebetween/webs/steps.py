@@ -30,3 +30,9 @@ def layers_from(web, one, steps):
     for _ in range(steps):
         layers.append(places_of(union_of([masks[place] for place in layers[-1]])))
     return tuple(layers)
+
+
+def middle_of(web, one, other):
+    """Return the place between two places of a web that is lone of depth 2."""
+    rows = web.rows
+    return [middle for middle in rows[one] if other in rows[middle]][0]

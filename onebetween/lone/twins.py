@@ -1,0 +1,60 @@
+"""Twins of webs that are lone of depth 2, and the classes of the places next to them, without any check."""
+
+from onebetween.base.masks import mask_of
+
+
+def twin_pairs(web):
+    """Return the ascending list of the pairs of twins."""
+    groups = {}
+    for place, column in enumerate(web.columns):
+        groups.setdefault(column, []).append(place)
+    pairs = []
+    for group in groups.values():
+        for at, one in enumerate(group):
+            pairs.extend([(one, other) for other in group[at + 1:]])
+    return sorted(pairs)
+
+
+def are_twins(web, u, v):
+    """Tell whether two places are twins."""
+    columns = web.columns
+    return u != v and columns[u] == columns[v]
+
+
+def classes_of(web, u, v):
+    """Return the ascending list of the classes at two twins."""
+    rows = web.rows
+    # For each class so far the mask of the places next to those of its places that are next to u.
+    groups = [(mask_of(rows[place]), (place,), ()) for place in rows[u]]
+    for place in rows[v]:
+        nexts = mask_of(rows[place])
+        mask, mine, theirs = 0, (), (place,)
+        apart = []
+        for group in groups:
+            if group[0] & nexts == 0:
+                apart.append(group)
+            else:
+                mask, mine, theirs = mask | group[0], mine + group[1], theirs + group[2]
+        groups = apart + [(mask, mine, theirs)]
+    return sorted([(tuple(sorted(mine)), tuple(sorted(theirs))) for _, mine, theirs in groups])
+
+
+def free_of(web, u, v):
+    """Return the ascending list of the free classes at two twins."""
+    return [group for group in classes_of(web, u, v) if u not in group[0] + group[1] and v not in group[0] + group[1]]
+
+
+def free_moves(web):
+    """Yield for each free class at twins u and v, with u less than v, the tuple of them and its sides, ascending."""
+    for u, v in twin_pairs(web):
+        for mine, theirs in free_of(web, u, v):
+            yield u, v, mine, theirs
+
+
+def with_switch(web, u, v, classes):
+    """Return the web behind a switch of some free classes."""
+    mine = [place for group, _ in classes for place in group]
+    theirs = [place for _, group in classes for place in group]
+    row = [place for place in web[u] if place not in mine] + theirs
+    other = [place for place in web[v] if place not in theirs] + mine
+    return web.with_row(u, tuple(sorted(row))).with_row(v, tuple(sorted(other)))

@@ -1,0 +1,1 @@
+"""Webs, walks and papers as texts, and a shell for commands."""

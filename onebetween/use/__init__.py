@@ -1,0 +1,1 @@
+"""A keeper of a lone web that changes."""
