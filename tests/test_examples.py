@@ -24,6 +24,14 @@ MODULES = (
     "onebetween.lone.tours",
     "onebetween.lone.closures",
     "onebetween.lone.words",
+    "onebetween.lone.switches",
+    "onebetween.lone.maps",
+    "onebetween.lone.refills",
+    "onebetween.terms.terms",
+    "onebetween.terms.forms",
+    "onebetween.use.keeper",
+    "onebetween.text.texts",
+    "onebetween.text.shell",
 )
 
 # For each stage its examples, and how many they are.
@@ -104,6 +112,15 @@ raises NotLone
 >>> [part_web(NINE, 2, (4, 5, 7, 8)) == FOUR, len(fewest_generators(NINE, 2)), is_generating(NINE, 2, (3,)), is_generating(FOUR, 2, (0, 3)), len(longest_rise(NINE, 2))]
 [True, 1, True, True, 4]
 """),
+    10: (4, """
+>>> [twins_of(FOUR), twins_of(FOUR, backward=True), classes_at(FOUR, 0, 1), free_classes(FOUR, 0, 1), len(twins_of(NINE)), twins_of(NINE)[0]]
+[((0, 1), (2, 3)), ((0, 2), (1, 3)), (((0,), (2,)), ((1,), (3,))), (), 5, (0, 1)]
+>>> words = Web(((0, 1, 2), (3, 4, 5), (6, 7, 8), (0, 1, 2), (3, 4, 5), (6, 7, 8), (0, 1, 2), (3, 4, 5), (6, 7, 8)))
+>>> [free_classes(words, 1, 2), switched(words, 1, 2, (3,)) == NINE, switched_all(words, ((1, 2, (3,)), (1, 2, (6,)))) == words, is_switch(words, NINE)]
+[(((3,), (6,)), ((4,), (7,)), ((5,), (8,))), True, True, True]
+>>> [next(iter(each_switch(words))), is_switch(words, FOUR), is_switch(NINE, NINE), switched(words, 1, 2, ()) == words]
+[(0, 1, (2,)), False, True, True]
+"""),
     11: (5, """
 >>> [is_line(NINE, 2), clashing_pair(FOUR, 2), word_names(NINE, 2), is_word_paper(NINE, 2, ("clash", 0, 1, 4)), is_word_paper(NINE, 2, ("clash", 0, 0, 3))]
 [False, None, None, True, False]
@@ -114,6 +131,63 @@ True
 >>> deeper = line_web(NINE)
 >>> [is_line(deeper, 3), len(plain_root(deeper, 3)[0]), word_paper(deeper, 3)[:2], is_root(deeper, 3, plain_root(deeper, 3))]
 [True, 9, ('clash', 1), True]
+"""),
+    12: (3, """
+>>> [is_map(FOUR, all_ties(2), (0, 0, 1, 1)), is_map(BENT, FOUR, (0, 1, 2, 3)), spread(FOUR, FOUR, {1: 2}), spread(FOUR, FOUR, {1: 0}), count_maps(FOUR, FOUR)]
+[True, False, (3, 2, 1, 0), (0, 0, 0, 0), 4]
+>>> [list(each_map(FOUR, FOUR)), own_maps(FOUR), image_of(FOUR, FOUR, (3, 3, 3, 3)), behind((3, 2, 1, 0), (0, 1, 2, 3)), count_maps(all_ties(3), all_ties(2))]
+[[(0, 0, 0, 0), (0, 1, 2, 3), (3, 2, 1, 0), (3, 3, 3, 3)], ((0, 1, 2, 3), (3, 2, 1, 0)), (3,), (3, 2, 1, 0), 8]
+>>> [are_alike(FOUR, FOUR.turned()), are_alike(NINE, word_web(3, 2)), is_likeness(FOUR, FOUR, (3, 2, 1, 0)), folds(word_web(3, 2), FOUR), any_likeness(FOUR, word_web(2, 3))]
+[True, False, True, True, None]
+"""),
+    13: (2, """
+>>> [refills(FOUR, 2, (1,)) == (FOUR,), [web.rows for web in refills(FOUR, 2, (0, 1))], count_refills(NINE, 2, (1, 2)), count_refills(BENT, 2, (0,))]
+[True, [((0, 1), (2, 3), (0, 1), (2, 3)), ((2, 3), (0, 1), (0, 1), (2, 3))], 8, 0]
+>>> [sure_ties(FOUR, 2, (0, 2)), open_ties(FOUR, 2, (0, 2)), sure_ties(FOUR, 2, (0, 1)), len(open_ties(FOUR, 2, (0, 1)))]
+[((0, 0), (0, 1), (2, 0), (2, 1)), (), (), 8]
+"""),
+    14: (4, """
+>>> whole = "**xy*yz"
+>>> [size_of(whole), letters_of(whole), levels_of(whole), part_at(whole, 1), replaced(whole, 1, "w"), sides_of(whole), mirrored(whole)]
+[4, ('x', 'y', 'z'), 2, '*xy', '*w*yz', ('*xy', '*yz'), '**zy*yx']
+>>> [substituted("*xy", {"x": "*yz"}), matched(whole, "**aa*a*bc"), matched(whole, "**ab*cb"), count_terms("ab", 3), list(each_term("a", 3))]
+['**yzy', {'x': 'a', 'y': 'a', 'z': '*bc'}, None, 16, ['**aaa', '*a*aa']]
+>>> [value_of(FOUR, whole, {"x": 1, "y": 2, "z": 3}), value_of(FOUR, "*xy", {"x": 1, "y": 2}), text_of(whole), read_text("(x*y)*(y*z)") == whole, text_of("a")]
+[2, 3, '(x*y)*(y*z)', True, 'a']
+"""),
+    15: (5, """
+>>> [steps_down("**ab*bc"), form_of("*a**abc"), form_of("**a*bcc"), steps_down("**ab**bc*cd"), form_chain("*c**ab*bc")]
+[((0, 1, 'b'),), '*ab', '*bc', ((4, 1, '**abc'),), ('*c**ab*bc', '*cb')]
+>>> [are_equal("**ab*bc", "**cb*ba"), are_equal("**ab*ca", "**db*cd"), are_equal_in_words("**ab*ca", "**db*cd"), word_ends("**ab*ca")]
+[True, False, True, (('b', 0), ('c', 1))]
+>>> [equality_paper("a", "b"), is_equality_paper("**ab*bc", "**db*bd", ("equal", ("**ab*bc", "b", "**db*bd")))]
+[('unequal', ('a',), ('b',)), True]
+>>> [parting_values(FOUR, "*ab", "*ba"), holds_in(FOUR, "**ab*ca", "**db*cd"), holds_in(NINE, "**ab*ca", "**db*cd"), list(each_form("a", 3))]
+[{'a': 0, 'b': 1}, True, False, ['**aaa', '*a*aa']]
+>>> [between_forms("*ab", "*bc"), is_tied_form("a", "*ab"), is_tied_form("*ab", "b"), is_tied_form("a", "b"), is_form("*a**abc")]
+['b', True, True, False, False]
+"""),
+    16: (5, """
+>>> keeper = Keeper(Web(((0, 1, 2), (3, 4, 5), (6, 7, 8), (0, 1, 2), (3, 4, 5), (6, 7, 8), (0, 1, 2), (3, 4, 5), (6, 7, 8))))
+>>> [keeper.lock(1, 4), keeper.switch(1, 2, (3,)), keeper.web == NINE, (1, 4) in keeper, keeper.mark("x", 3), keeper.mark("y", 5), keeper.find("*xy")]
+[None, None, True, True, None, None, 1]
+>>> [(1, 2, (4,)) in keeper.moves(), (1, 2, (5,)) in keeper.moves(), keeper.rename((8, 7, 6, 5, 4, 3, 2, 1, 0)), keeper.locks, keeper.marks, str(keeper)]
+[False, True, None, ((7, 4),), {'x': 5, 'y': 3}, 'keeper of 9 places, 1 locks, 2 marks']
+>>> [keeper.undo(many=4), keeper.web == NINE, keeper.changes, keeper.locks]
+[None, False, 1, ((1, 4),)]
+>>> keeper.switch(1, 2, (4,))
+raises NoWalk
+"""),
+    17: (5, r"""
+>>> [write_web(BENT), read_web("1 to nothing\n0 to 1").rows, write_walk((0, 1, 3)), read_walk("7"), write_paper(("two", (2, 0, 0), (2, 2, 0)))]
+['0 to 0 1\n1 to 2 3\n2 to 0 2\n3 to 1 3', ((1,), ()), '0 1 3', (7,), 'two\n2 0 0\n2 2 0']
+>>> [read_paper("lone\n0 0"), write_paper(("none", 2, 3, ((2,), (0, 2), (0, 1, 2)))), read_paper(write_paper(lone_paper(NINE, 2))) == lone_paper(NINE, 2)]
+[('lone', (((0, 0),),)), 'none 2 3\n2\n0 2\n0 1 2', True]
+>>> shell = Shell(Keeper(FOUR))
+>>> [shell("between 1 2"), shell("form **ab*bc"), shell("equal *ab *ba"), shell("walks 0 3 at 5"), shell("rings 4"), shell("trees"), shell("closure 1")]
+['3', 'b', 'no', '8', '3', '2', '0 1 2 3']
+>>> [shell("moves"), shell("words"), shell("mark x 3"), shell("find *xx"), shell("lock 0 3"), shell("undo 2"), shell("between 1 4"), shell("Show"), str(shell)]
+['none', 'yes', 'ok', '3', 'tie 0 3', 'nothing', 'number', 'what', 'shell of keeper of 4 places, 0 locks, 1 marks']
 """),
 }
 
@@ -132,6 +206,7 @@ def names():
 
 class Examples(unittest.TestCase):
     def test_stages(self):
+        self.assertEqual(list(STAGES), list(range(1, 18)))
         for stage, (many, text) in STAGES.items():
             with self.subTest(stage=stage):
                 self.check(text, many)

@@ -95,7 +95,7 @@ class Maps(Case):
             for size in range(min(len(one), 3 if len(one) < 9 else 2) + 1):
                 for places in itertools.combinations(range(len(one)), size):
                     whole = len(closure(one, depth, places)) == len(one)
-                    for images in itertools.product(range(len(other)), repeat=size):
+                    for images in itertools.islice(itertools.product(range(len(other)), repeat=size), 0, None if whole else 20, 1 + size * len(one) // 6):
                         seeds = dict(zip(places, images))
                         if not whole:
                             self.assertRaisesJust(InvalidOperation, spread, one, other, seeds)
@@ -236,7 +236,8 @@ class Wrong(Case):
         self.assertSame(spread(all_ties(27), all_ties(3), {place: place % 3 for place in range(27)}), (0, 1, 2) * 9)
 
     def test_own_maps_too_many(self):
-        for web, limit in ((all_ties(8), 7), (all_ties(16), 7), (all_ties(17), 16), (FULL, 16), (FIVES, 16), (word_web(2, 5), 16), (CUBE, 16), (word_web(6, 2), 16)):
+        for web, limit in ((all_ties(8), 7), (all_ties(16), 7), (all_ties(17), 16), (FULL, 16), (FIVES, 16), (word_web(2, 5), 16), (CUBE, 16),
+                           (word_web(6, 2), 16)):
             self.assertEqual(self.assertRaisesJust(TooMany, own_maps, web).limit, limit)
         self.assertEqual([len(own_maps(all_ties(7))), len(own_maps(DEEP4)), len(own_maps(FOURS))], [5040, 2, 24])
 
