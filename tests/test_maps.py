@@ -128,6 +128,14 @@ class Maps(Case):
             self.assertTrue(web.renamed(told) == other)
             self.assertIs(are_alike(other, web), True)
             self.assertIs(folds(web, other), True)
+            # One place changed, and two places exchanged.
+            for place in range(many):
+                for image in range(0, many, 5):
+                    swapped = list(told)
+                    swapped[place], swapped[image] = swapped[image], swapped[place]
+                    for value in (told[:place] + (image,) + told[place + 1:], tuple(swapped)):
+                        right = is_map_by_force(web, other, value) and len(set(value)) == many
+                        self.assertIs(is_likeness(web, other, value), right)
         for one, other in ((CUBE, word_web(3, 3)), (CUBE, CUBE.turned()), (SIXTEEN, TWISTED), (FOURS, TWISTED), (NINE, WORDS)):
             told = any_likeness(one, other)
             self.assertIs(are_alike(one, other), told is not None)

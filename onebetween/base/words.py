@@ -38,7 +38,10 @@ def is_number_word(value):
 
 def is_ascending(value, many):
     """Tell whether the value is an ascending tuple of integers from 0 to many - 1."""
-    if not isinstance(value, tuple) or not all([is_within(number, 0, many - 1) for number in value]):
+    if not isinstance(value, tuple) or not all([is_integer(number) for number in value]):
+        return False
+    # Of ascending integers only the ends can be beyond the bounds.
+    if len(value) > 0 and (value[0] < 0 or value[-1] >= many):
         return False
     return all([low < high for low, high in zip(value, value[1:])])
 

@@ -10,7 +10,7 @@ from onebetween.lone.covers import ways_to_cover
 
 
 def fillings(rows, depth, places, most):
-    """Return the ascending list of the tuples of rows of the lost places; only some if there are more than so many."""
+    """Return the ascending list of the tuples of rows of the lost places, None if there are more than so many."""
     degree = _root_of(len(rows), depth)
     known = [() if place in places else row for place, row in enumerate(rows)]
     if degree is None or any([len(row) != degree for place, row in enumerate(known) if place not in places]):
@@ -26,15 +26,21 @@ def fillings(rows, depth, places, most):
     early = [place for place in choices if _is_early(levels, lost, place)]
     late = [choices[place] for place in choices if place not in early]
     found = []
+    many = 0
     # The rows that lost places have by some of the early ties, and the levels of walks along them.
     left = [(0, known, levels)]
-    while len(left) > 0 and len(found) <= most:
+    while len(left) > 0 and many <= most:
         at, told, levels = left.pop()
-        if at == len(early):
-            found.extend(_filled(told, places, _late_ways(levels, lost, late, most + 1), most + 1))
-        else:
+        if at < len(early):
             left.extend(_with_ties(at, told, depth, degree, choices[early[at]]))
-    return sorted(found)
+        else:
+            groups = _late_ways(levels, lost, late, most + 1)
+            if _count_of(groups) > 0:
+                found.append(([told[place] for place in places], groups))
+                many = many + _count_of(groups)
+    if many > most:
+        return None
+    return sorted([filled for told, groups in found for filled in _filled(told, places, groups)])
 
 
 def walk_levels(rows, depth):
@@ -163,16 +169,23 @@ def _covered(levels, needs, choice):
     return union
 
 
-def _filled(told, places, groups, most):
-    """Return the rows of the lost places by one way of each group; only so many if there are more."""
-    if any([len(ways) == 0 for ways in groups]):
-        return []
+def _count_of(groups):
+    """Return how many choices of one way of each group there are."""
+    many = 1
+    for ways in groups:
+        many = many * len(ways)
+    return many
+
+
+def _filled(told, places, groups):
+    """Return the rows of the lost places by one way of each group, beside the ties that are told."""
     found = [()]
     for ways in groups:
-        enough = most // len(ways) + 1
-        found = [ahead + way for ahead in found[:enough] for way in ways]
+        found = [ahead + way for ahead in found for way in ways]
     filled = []
-    for ties in found[:most]:
-        rows = [told[one] + tuple([place for place, mask in ties if has_place(mask, one)]) for one in places]
-        filled.append(tuple([tuple(sorted(row)) for row in rows]))
+    for ties in found:
+        rows = []
+        for one, row in zip(places, told):
+            rows.append(tuple(sorted(row + tuple([place for place, mask in ties if has_place(mask, one)]))))
+        filled.append(tuple(rows))
     return filled

@@ -103,8 +103,8 @@ def own_maps(web):
     _check_lone(web, web)
     if len(web) > _MAX_OWN:
         raise TooMany(_MAX_OWN)
-    if web.lone_depth == 1 and len(web) > _MAX_FLAT:
-        raise TooMany(_MAX_FLAT)
+    if web.lone_depth == 1:
+        return _orders(len(web))
     return tuple(found_maps(web, web, True))
 
 
@@ -176,6 +176,16 @@ def _spread(one, other, seeds):
     if len(known) < len(one):
         raise InvalidOperation("the seeds do not generate the whole web")
     return tuple(values)
+
+
+def _orders(many):
+    """Return the ascending tuple of all orders of so many places."""
+    if many > _MAX_FLAT:
+        raise TooMany(_MAX_FLAT)
+    orders = [()]
+    for _ in range(many):
+        orders = [order + (place,) for order in orders for place in range(many) if place not in order]
+    return tuple(orders)
 
 
 def _are_counts(value):

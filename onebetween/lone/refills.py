@@ -54,7 +54,7 @@ def _found(web, depth, places):
     """Return the ascending list of the rows that the lost places have in the refills."""
     _check(web, depth, places)
     found = fillings(web.rows, depth, places, MAX_REFILLS)
-    if len(found) > MAX_REFILLS:
+    if found is None:
         raise TooMany(MAX_REFILLS)
     return found
 

@@ -48,45 +48,70 @@ def keeps_ties(web, masks, value):
     return True
 
 
+class Level:
+    """What a search for maps does where it has to choose a value of a place."""
+
+    def __init__(self, web, table, ahead, place):
+        self.place = place
+        self.is_looped = place in web[place]
+        # The places known ahead that are tied to the place, and those to which it is tied.
+        self.before = [other for other in web.columns[place] if other in ahead]
+        self.after = [other for other in web[place] if other in ahead]
+        # The places that follow behind it, and those that are known then.
+        self.known = dict(ahead)
+        self.follows = take_in(table, self.known, place)
+        # The other ties that come to be known.
+        old = {other: True for other in list(ahead) + [place]}
+        known = self.known
+        self.asked = [(x, y) for x, y in web.ties if x in known and y in known and not (x in old and y in old)]
+
+
 def found_maps(one, other, alone):
     """Yield all maps between lone webs of one depth, ascending; or only those with no place twice."""
     levels = _levels(one)
     table = walk_table(other)
-    masks = [mask_of(row) for row in other.rows]
+    rows = [mask_of(row) for row in other.rows]
+    columns = [mask_of(column) for column in other.columns]
     values = [0] * len(one)
-    # For each level that is begun the value that its place takes next.
-    later = [0]
+    # For each level that is begun the mask of the values that its place takes later.
+    later = [_let_values(levels[0], values, rows, columns)]
     while len(later) > 0:
-        value = later.pop()
-        if value < len(other):
-            later.append(value + 1)
-            place, follows, ties, known = levels[len(later) - 1]
-            values[place] = value
-            put_down(values, table, follows)
-            if _goes_on(values, masks, ties) and not (alone and _is_doubled(values, known)):
+        left = later.pop()
+        if left != 0:
+            later.append(left & (left - 1))
+            level = levels[len(later) - 1]
+            values[level.place] = (left & -left).bit_length() - 1
+            put_down(values, table, level.follows)
+            if _goes_on(values, rows, level.asked) and not (alone and _is_doubled(values, level.known)):
                 if len(later) == len(levels):
                     yield tuple(values)
                 else:
-                    later.append(0)
+                    later.append(_let_values(levels[len(later)], values, rows, columns))
 
 
 def _levels(web):
-    """Return what a search for maps does: for each place that it has to choose a tuple.
-
-    It has the place, what follows behind it, the ties that are known then, but not ahead of it, and all known places.
-    """
+    """Return the levels of a search for maps from a web, by which all its places come to be known."""
     table = walk_table(web)
     known = {}
-    ties = web.ties
     levels = []
     for place in range(len(web)):
         if place not in known:
-            ahead = dict(known)
-            follows = take_in(table, known, place)
-            # The ties that can be looked at now, but could not be ahead.
-            now = [(x, y) for x, y in ties if x in known and y in known and not (x in ahead and y in ahead)]
-            levels.append((place, follows, now, list(known)))
+            level = Level(web, table, known, place)
+            known = level.known
+            levels.append(level)
     return levels
+
+
+def _let_values(level, values, rows, columns):
+    """Return the mask of the values that the place of a level can have beside those that are known ahead."""
+    mask = (1 << len(rows)) - 1
+    if level.is_looped:
+        mask = mask_of([place for place, row in enumerate(rows) if has_place(row, place)])
+    for other in level.before:
+        mask = mask & rows[values[other]]
+    for other in level.after:
+        mask = mask & columns[values[other]]
+    return mask
 
 
 def _goes_on(values, masks, ties):

@@ -1,6 +1,7 @@
 """Twins of webs that are lone of depth 2, and the classes of the places next to them, without any check."""
 
 from onebetween.base.masks import mask_of
+from onebetween.webs.webs import Web
 
 
 def twin_pairs(web):
@@ -55,6 +56,7 @@ def with_switch(web, u, v, classes):
     """Return the web behind a switch of some free classes."""
     mine = [place for group, _ in classes for place in group]
     theirs = [place for _, group in classes for place in group]
-    row = [place for place in web[u] if place not in mine] + theirs
-    other = [place for place in web[v] if place not in theirs] + mine
-    return web.with_row(u, tuple(sorted(row))).with_row(v, tuple(sorted(other)))
+    rows = list(web.rows)
+    rows[u] = tuple(sorted([place for place in web[u] if place not in mine] + theirs))
+    rows[v] = tuple(sorted([place for place in web[v] if place not in theirs] + mine))
+    return Web(tuple(rows))

@@ -233,7 +233,8 @@ def _values_of(table, term, columns):
     for sign in term[::-1]:
         if sign == "*":
             left = values.pop()
-            values.append([table[one][other] for one, other in zip(left, values.pop())])
+            right = values.pop()
+            values.append([table[one][other] for one, other in zip(left, right)])
         else:
             values.append(columns[sign])
     return values[0]

@@ -23,7 +23,8 @@ def parts_of(term):
     for sign in term[::-1]:
         if sign == "*":
             left = open_parts.pop()
-            part = joined(left, open_parts.pop())
+            right = open_parts.pop()
+            part = joined(left, right)
         else:
             part = Part(sign, None, None)
         open_parts.append(part)
@@ -61,7 +62,8 @@ def form_part(term):
     for sign in term[::-1]:
         if sign == "*":
             left = open_parts.pop()
-            open_parts.append(form_of_product(left, open_parts.pop()))
+            right = open_parts.pop()
+            open_parts.append(form_of_product(left, right))
         else:
             open_parts.append(Part(sign, None, None))
     return open_parts[0]

@@ -13,8 +13,8 @@ MAX_LETTERS = 200
 
 _ALPHABET = "abcdefghijklmnopqrstuvwxyz"
 
-# A text has the letters, the stars between them, and brackets around each product but the whole one.
-_LONGEST_TEXT = 4 * MAX_LETTERS - 5
+# The text of a term of MAX_LETTERS letters has 199 stars between them, and brackets around 198 products.
+_LONGEST_TEXT = 795
 
 
 def is_term(value):
@@ -54,7 +54,8 @@ def levels_of(term):
     for sign in term[::-1]:
         if sign == "*":
             left = levels.pop()
-            levels.append(1 + max(left, levels.pop()))
+            right = levels.pop()
+            levels.append(1 + max(left, right))
         else:
             levels.append(0)
     return levels[0]
@@ -109,7 +110,8 @@ def mirrored(term):
     for sign in term[::-1]:
         if sign == "*":
             left = terms.pop()
-            terms.append("*" + terms.pop() + left)
+            right = terms.pop()
+            terms.append("*" + right + left)
         else:
             terms.append(sign)
     return terms[0]
@@ -215,7 +217,8 @@ def value_in(web, term, values):
     for sign in term[::-1]:
         if sign == "*":
             left = places.pop()
-            places.append(middle_of(web, left, places.pop()))
+            right = places.pop()
+            places.append(middle_of(web, left, right))
         else:
             places.append(values[sign])
     return places[0]
@@ -274,7 +277,8 @@ def _text(term):
     for sign in term[::-1]:
         if sign == "*":
             left = texts.pop()
-            texts.append(f"({left}*{texts.pop()})")
+            right = texts.pop()
+            texts.append(f"({left}*{right})")
         else:
             texts.append(sign)
     if len(texts[0]) > 1:

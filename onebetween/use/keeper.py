@@ -193,13 +193,12 @@ class Keeper:
         return len(self.now.kept_locks)
 
     def __eq__(self, value):
-        return isinstance(value, Keeper) and self._parts() == value._parts()
+        if not isinstance(value, Keeper) or self.now.kept_web != value.now.kept_web:
+            return False
+        return self.now.kept_locks == value.now.kept_locks and self.now.kept_marks == value.now.kept_marks
 
     def __str__(self):
         return f"keeper of {len(self.now.kept_web)} places, {len(self)} locks, {len(self.now.kept_marks)} marks"
-
-    def _parts(self):
-        return self.now.kept_web.rows, self.now.kept_locks, self.now.kept_marks
 
     def _check_places(self, one, other):
         check_place(self.now.kept_web, one)
