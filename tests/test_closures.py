@@ -1,6 +1,7 @@
 """Closed sets of places, and sets that generate them: stage 9."""
 
 import itertools
+import time
 import unittest
 
 from onebetween.errors import InvalidOperation, NotLone, TooMany
@@ -154,6 +155,14 @@ class ManySets(Case):
                 for web in (word_web(many, 1), all_ties(many)):
                     self.assertEqual(self.assertRaisesJust(TooMany, call, web, 1).limit, limit)
                     self.assertRefused(NotLone, "reason", 2, call, web, 2)
+
+    def test_many_short_questions(self):
+        # The sets need not be looked at: each call takes far less than a hundredth of a second.
+        begin = time.process_time()
+        for call in (closed_sets, longest_rise):
+            for _ in range(200):
+                self.assertRaisesJust(TooMany, call, word_web(10, 1), 1)
+        self.assertLess(time.process_time() - begin, 3)
 
     def test_greater_depths_by_force(self):
         for web, depth in ((FOUR, 2), (NINE, 2), (word_web(3, 2), 2), (SIXTEEN, 2), (word_web(4, 2), 2), (DEEP, 3), (line_web(FOUR), 3),

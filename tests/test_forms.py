@@ -235,7 +235,8 @@ class Equality(Case):
             self.assertIs(is_equality_paper(one, other, value), False)
         for value in (("unequal", (one,), ("d",)), ("unequal", (one, "b"), ("d", "d")), ("unequal", ("b",), ("d",)), ("unequal", (one, "b"), ()),
                       ("unequal", (one, "b"), ["d"]), ("unequal", (one, "b", one, "b"), ("d",)), ("unequal", (one, "b"), ("d", "**ad*da", "d")),
-                      ("unequal", (one, "b"), ("d",), ()), ("unequal", ("d",), (one, "b")), ("equal", (one, "b"), ("d",))):
+                      ("unequal", (one, "b"), ("d",), ()), ("unequal", (one, "b"), ("d",), ("d",)), ("unequal", (one, "b")),
+                      ("unequal", ("d",), (one, "b")), ("equal", (one, "b"), ("d",))):
             self.assertIs(is_equality_paper(one, "d", value), False)
         self.assertJudges(is_equality_paper, ("a", "a"), ANY_KIND)
 

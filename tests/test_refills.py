@@ -5,6 +5,7 @@ import time
 import unittest
 
 from onebetween.errors import InvalidNumber, InvalidOperation, InvalidWeb, TooMany
+from onebetween.lone.filling import fillings
 from onebetween.lone.papers import is_lone
 from onebetween.lone.refills import MAX_REFILLS, count_refills, is_refill, open_ties, refills, sure_ties
 from onebetween.lone.switches import each_switch, switched, twins_of
@@ -159,11 +160,19 @@ class Refills(Case):
             self.assertSame([count_refills(taken, 2, places), refills(taken, 2, places)], [0, ()])
             self.assertRaisesJust(InvalidOperation, sure_ties, taken, 2, places)
 
-    def test_just_two_thousand(self):
-        # Two lost twins of a word web: a free class each for all but the places that are twins themselves.
+    def test_powers(self):
+        # Two lost twins of a word web: each class can go to either one.
         found = {degree: count_refills(word_web(degree, 2), 2, (1, 2)) for degree in range(3, 11)}
         self.assertSame(found, {degree: 2 ** degree for degree in range(3, 11)})
         self.assertRaisesJust(TooMany, count_refills, word_web(11, 2), 2, (1, 2))
+
+    def test_just_as_many_as_are_let(self):
+        for web, depth, places in ((WORDS, 2, (1, 2)), (WORDS, 2, (0, 1, 2)), (word_web(4, 3), 3, (1, 2, 3)), (FOUR, 2, (0, 1)), (DEEP, 3, (0, 4))):
+            found = fillings(web.rows, depth, places, MAX_REFILLS)
+            many = len(found)
+            self.assertEqual(fillings(web.rows, depth, places, many), found)
+            for most in (0, 1, many - 1):
+                self.assertIs(fillings(web.rows, depth, places, most) is None, most < many)
 
     def test_great_webs_come_within_short_time(self):
         begin = time.process_time()

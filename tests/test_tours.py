@@ -2,6 +2,7 @@
 
 import itertools
 import math
+import time
 import unittest
 
 from onebetween.base.matrices import determinant
@@ -300,6 +301,16 @@ class Numbers(Case):
                 if told is not None:
                     self.assertIs(is_tour(some, told), True)
                     self.assertEqual(told, least_tour(some))
+
+    def test_many_short_questions(self):
+        begin = time.process_time()
+        for _ in range(100):
+            count_tours(word_web(8, 2))
+        self.assertLess(time.process_time() - begin, 0.5)
+        begin = time.process_time()
+        for _ in range(50):
+            any_tour(word_web(8, 2))
+        self.assertLess(time.process_time() - begin, 0.5)
 
     def test_dense_webs_without_some_rounds(self):
         # Tours of webs from which closed walks are taken: as many ties from each place as to it.
