@@ -25,19 +25,33 @@ def are_twins(web, u, v):
 def classes_of(web, u, v):
     """Return the ascending list of the classes at two twins."""
     rows = web.rows
-    # For each class so far the mask of the places next to those of its places that are next to u.
-    groups = [(mask_of(rows[place]), (place,), ()) for place in rows[u]]
+    found = []
+    # Two places with equal rows are mates, and have no others, since the rows behind a twin have no place in common.
+    alone = {rows[place]: place for place in rows[u]}
+    theirs = []
     for place in rows[v]:
+        if rows[place] in alone:
+            found.append(((alone.pop(rows[place]),), (place,)))
+        else:
+            theirs.append(place)
+    return sorted(found + _classes_among(rows, list(alone.values()), theirs))
+
+
+def _classes_among(rows, mine, theirs):
+    """Return the list of the classes of some places next to one twin, and some next to the other one."""
+    # For each class so far the mask of the places next to those of mine that are in it.
+    groups = [(mask_of(rows[place]), (place,), ()) for place in mine]
+    for place in theirs:
         nexts = mask_of(rows[place])
-        mask, mine, theirs = 0, (), (place,)
+        joined = (0, (), (place,))
         apart = []
         for group in groups:
             if group[0] & nexts == 0:
                 apart.append(group)
             else:
-                mask, mine, theirs = mask | group[0], mine + group[1], theirs + group[2]
-        groups = apart + [(mask, mine, theirs)]
-    return sorted([(tuple(sorted(mine)), tuple(sorted(theirs))) for _, mine, theirs in groups])
+                joined = (joined[0] | group[0], joined[1] + group[1], joined[2] + group[2])
+        groups = apart + [joined]
+    return [(tuple(sorted(group[1])), tuple(sorted(group[2]))) for group in groups]
 
 
 def free_of(web, u, v):
