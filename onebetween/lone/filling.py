@@ -1,7 +1,7 @@
 """The rows that lost places of a lone web can have, if those of all other places are known.
 
-A tie from a lost place is early if a walk can go on from it to a lost place and over another such tie. If the early ones
-are chosen, a walk goes over one of the others at most, and these have to cover just what the walks do not reach yet.
+A tie from a lost place is early if a walk can go on from it to a lost place and over another such tie. If the early
+ones are chosen, a walk goes over one of the others at most, and these have to cover just what is not reached yet.
 """
 
 from onebetween.base.masks import has_place, mask_of, places_of, size_of_mask
@@ -114,7 +114,7 @@ def _parts_of(mask):
 
 
 def _is_right(told, place, mask):
-    """Tell whether each told mask of ends has one of these lost places if the place is missed there, and none if not."""
+    """Tell whether each told mask of ends has one of these lost places if it misses the place, and none if not."""
     return all([size_of_mask(mask & ends) == (1 if has_place(missing, place) else 0) for ends, missing in told])
 
 
